@@ -1,0 +1,302 @@
+"""[1] The general rules, for every call: names, order, what is refused, and what stays as it was."""
+
+import ast
+import copy
+import importlib
+import inspect
+import itertools
+import os
+import unittest
+
+from common import (CUBE, Odd, MANY, RING, SHARED, SIX, TRAP, chance_of, junk, mutations, outcome, same_kind, told_int,
+                    told_is_place, told_lot, told_place, told_row, told_saying, told_steps, told_tuple, told_wish, told_works)
+
+OUT = ("OutOfPlace",)
+# Wishes for two deeds, for three and for four.
+TWO = (((0, 1), (1, 0), (2, 2)), (0, 1))
+TWO_MORE = (((1, 0), (1, 2), (2, 2)), (0, 1))
+THREE = (((0, 0, 1), (1, 1, 1)), (0,))
+FOUR = (((0, 0, 1, 0), (1, 0, 1, 1)), (0, 1))
+# By deed 1, which cannot be stopped, it comes to a place that is lost.
+SHUT = (3, (((0, 1, 2), (((0, 1), (1, 1)), ())),), (1,), ((0,),))
+SAYING = ("and", ("has", (0,)), ("not", ("most", (0, 1), 2)))
+
+
+def told_plan(thing):
+    if not told_tuple(thing, 3, 3) or not told_int(thing[0], 1, 6):
+        return OUT
+    if not told_steps(thing[1], tuple(range(thing[0]))) or not told_lot(thing[2], len(thing[1])):
+        return OUT
+    return None
+
+
+def told_run(works, thing):
+    return told_row(thing, works[0], 0, 400) and told_place(works, thing) is not None
+
+
+def told_names(deeds, thing):
+    return told_row(thing, deeds) and len(thing) == deeds and all(thing.count(deed) == 1 for deed in range(deeds))
+
+
+def deeds_of(given):
+    return given["works"][0] if "works" in given else given["deeds"]
+
+
+def none_or(holds, error):
+    return None if holds else error
+
+
+def bad_wish(given, thing):
+    part = told_wish(deeds_of(given), thing)
+    return None if part is None else ("BadWish", part)
+
+
+def bad_saying(given, thing):
+    path = told_saying(deeds_of(given), thing)
+    return None if path is None else ("BadWish", path)
+
+
+def bad_other(given, thing):
+    return told_works(thing) or none_or(thing[0] == given["works"][0], OUT)
+
+
+# For each kind of argument: the error that is due, or None, by the arguments ahead of it and a thing.
+KINDS = {
+    "works": lambda given, thing: told_works(thing),
+    "other": bad_other,
+    "place": lambda given, thing: none_or(told_is_place(given["works"], thing), OUT),
+    "run": lambda given, thing: none_or(told_run(given["works"], thing), OUT),
+    "deed": lambda given, thing: none_or(told_int(thing, 0, given["works"][0] - 1), OUT),
+    "length": lambda given, thing: none_or(told_int(thing, 0, 40), OUT),
+    "plan": lambda given, thing: told_plan(thing),
+    "free": lambda given, thing: none_or(told_lot(thing, given["thing"][0]), OUT),
+    "names": lambda given, thing: none_or(told_names(deeds_of(given), thing), OUT),
+    "deeds": lambda given, thing: none_or(told_int(thing, 1, 6), OUT),
+    "row": lambda given, thing: none_or(told_row(thing, deeds_of(given), 0, 400), OUT),
+    "wish": bad_wish,
+    "saying": bad_saying,
+    "sight": lambda given, thing: none_or(told_lot(thing, deeds_of(given)), OUT),
+    "paper": lambda given, thing: ("BadPaper", "form"),
+    "any": lambda given, thing: None,
+}
+
+WORKS_WISH = (("works", "works"), ("wish", "wish"))
+WORKS_PLACE = (("works", "works"), ("place", "place"))
+WORKS_OTHER = (("works", "works"), ("other", "other"))
+DEEDS_BOTH = (("deeds", "deeds"), ("wish", "wish"), ("other", "wish"))
+FOLLOW = WORKS_WISH + (("other", "wish"),)
+
+# Module, function, names and kinds of its arguments, and arguments that are right.
+CALLS = [
+    ("works", "need_works", (("thing", "works"),), (RING,)),
+    ("works", "doable", WORKS_PLACE, (RING, (2,))),
+    ("works", "behind", WORKS_PLACE + (("deed", "deed"),), (RING, (2,), 1)),
+    ("works", "place_of", (("works", "works"), ("run", "run")), (RING, (0, 0, 1))),
+    ("works", "is_run", (("works", "works"), ("value", "any")), (RING, (0, 0, 1))),
+    ("works", "is_goal", WORKS_PLACE, (RING, (2,))),
+    ("works", "places", (("works", "works"),), (CUBE,)),
+    ("goings", "first_run", WORKS_PLACE, (RING, (2,))),
+    ("goings", "many_runs", (("works", "works"), ("length", "length")), (RING, 4)),
+    ("goings", "still_places", (("works", "works"),), (TRAP,)),
+    ("goings", "lost_places", (("works", "works"),), (TRAP,)),
+    ("goings", "do_go_on", (("works", "works"),), (TRAP,)),
+    ("alikes", "are_alike", WORKS_OTHER, (TRAP, CUBE)),
+    ("alikes", "alike_paper", WORKS_OTHER, (TRAP, CUBE)),
+    ("alikes", "parting", WORKS_OTHER, (TRAP, CUBE)),
+    ("alikepapers", "check_alike", WORKS_OTHER + (("paper", "paper"),), (TRAP, CUBE, ("unlike", ()))),
+    ("plans", "plan", (("works", "works"),), (SHARED,)),
+    ("plans", "least_plan", (("works", "works"),), (SHARED,)),
+    ("plans", "works_of", (("thing", "plan"), ("free", "free")), ((2, (((0, 1),), ()), (1,)), (1,))),
+    ("plans", "together", WORKS_OTHER, (TRAP, (3, (((), ((),)),), (), ((0,),)))),
+    ("plans", "renamed", (("works", "works"), ("names", "names")), (TRAP, (2, 0, 1))),
+    ("wishes", "need_wish", (("deeds", "deeds"), ("thing", "wish")), (2, TWO)),
+    ("wishes", "state_of", (("deeds", "deeds"), ("wish", "wish"), ("row", "row")), (2, TWO, (0, 1))),
+    ("wishes", "is_wished", (("deeds", "deeds"), ("wish", "wish"), ("value", "any")), (2, TWO, (0, 1))),
+    ("wishes", "least_wish", (("deeds", "deeds"), ("wish", "wish")), (2, TWO)),
+    ("wishes", "meet", DEEDS_BOTH, (2, TWO, TWO_MORE)),
+    ("wishes", "join", DEEDS_BOTH, (2, TWO, TWO_MORE)),
+    ("wishes", "wish_renamed", (("deeds", "deeds"), ("wish", "wish"), ("names", "names")), (2, TWO, (1, 0))),
+    ("wishes", "standings", WORKS_WISH, (RING, TWO)),
+    ("wishes", "first_unwished", WORKS_WISH, (RING, TWO_MORE)),
+    ("wishes", "do_keep", WORKS_WISH, (RING, TWO)),
+    ("wishpapers", "check_follow", FOLLOW + (("paper", "paper"),), (RING, TWO_MORE, TWO, ("not", (0, 0, 1)))),
+    ("wishpapers", "check_same", DEEDS_BOTH + (("paper", "paper"),), (2, TWO, TWO_MORE, ("unlike", (0, 1)))),
+    ("follows", "does_follow", FOLLOW, (RING, TWO, TWO_MORE)),
+    ("follows", "follow_paper", FOLLOW, (RING, TWO, TWO_MORE)),
+    ("follows", "are_same", DEEDS_BOTH, (2, TWO, TWO_MORE)),
+    ("follows", "same_paper", DEEDS_BOTH, (2, TWO, TWO_MORE)),
+    ("follows", "parting_row", DEEDS_BOTH, (2, TWO, TWO_MORE)),
+    ("sayings", "need_saying", (("deeds", "deeds"), ("thing", "saying")), (2, SAYING)),
+    ("sayings", "does_hold", (("deeds", "deeds"), ("saying", "saying"), ("row", "row")), (2, SAYING, (0, 1, 1))),
+    ("sayings", "wish_of", (("deeds", "deeds"), ("saying", "saying")), (2, SAYING)),
+    ("keepingpapers", "check_keeping", WORKS_WISH + (("paper", "paper"),),
+     (SHUT, THREE,
+      ("lost", (("still", (((1,), 0),)), ("free", ((((0,), 0), 1),)))))),
+    ("keeping", "both_pairs", WORKS_WISH, (TRAP, THREE)),
+    ("keeping", "can_keep", WORKS_WISH, (TRAP, THREE)),
+    ("keeping", "keeping_paper", WORKS_WISH, (SHUT, THREE)),
+    ("keeping", "greatest_part", WORKS_WISH, (RING, TWO)),
+    ("keeping", "is_let", WORKS_WISH + (("value", "any"),), (RING, TWO, (0,))),
+    ("keeping", "let_deeds", WORKS_WISH + (("run", "run"),), (RING, TWO, (0,))),
+    ("keeping", "kept_plan", WORKS_WISH, (RING, TWO)),
+    ("exactpapers", "check_exact", WORKS_WISH + (("paper", "paper"),), (RING, TWO_MORE, ("out", (0, 0), 1))),
+    ("exacts", "is_exact", WORKS_WISH, (RING, TWO_MORE)),
+    ("exacts", "exact_paper", WORKS_WISH, (RING, TWO_MORE)),
+    ("exacts", "is_wider", WORKS_WISH + (("value", "any"),), (RING, TWO_MORE, (0, 0, 1))),
+    ("sights", "look_of", (("works", "works"), ("sight", "sight"), ("run", "run")), (RING, (1,), (0, 0, 1))),
+    ("sights", "estimate", WORKS_WISH + (("sight", "sight"), ("look", "row")), (RING, TWO, (1,), (1,))),
+]
+
+
+def function_of(call):
+    return getattr(importlib.import_module("worksward." + call[0]), call[1])
+
+
+def given_of(call, args):
+    return dict(zip([name for name, _ in call[2]], args))
+
+
+def due_error(call, args):
+    """The first error that is due for the arguments, from left to right, or None."""
+    given = given_of(call, args)
+    for name, kind in call[2]:
+        error = KINDS[kind](given, given[name])
+        if error is not None:
+            return error
+    return None
+
+
+def wrong_things(call, place):
+    """Wrong things for one argument, the others being right, each with the error that is due."""
+    args = call[3]
+    kind = call[2][place][1]
+    things = junk() + [MANY, SIX, CUBE, TWO, THREE, (0,) * 401, ((0, 0, 1),)]
+    if kind in ("works", "other", "wish", "plan", "place", "names", "saying"):
+        things += mutations(args[place], chance_of(place), 60)
+    found = []
+    for thing in things:
+        if kind == "paper" and type(thing) is tuple and thing[:1] == ("kept",):
+            continue
+        error = KINDS[kind](given_of(call, args), thing)
+        if error is not None:
+            found.append((thing, error))
+    return found
+
+
+class Arguments(unittest.TestCase):
+    def test_each_function_stands_in_its_file_with_its_names(self):
+        for call in CALLS:
+            function = function_of(call)
+            self.assertTrue(inspect.isfunction(function), call[:2])
+            self.assertEqual(function.__module__, "worksward." + call[0])
+            self.assertEqual(function.__name__, call[1])
+            told = inspect.signature(function).parameters
+            self.assertEqual(tuple(told), tuple(name for name, _ in call[2]), call[:2])
+            for parameter in told.values():
+                self.assertEqual(parameter.kind, parameter.POSITIONAL_OR_KEYWORD)
+                self.assertIs(parameter.default, parameter.empty)
+
+    def test_by_position_and_by_name_in_any_order(self):
+        for call in CALLS:
+            function = function_of(call)
+            first = function(*call[3])
+            given = given_of(call, call[3])
+            for names in itertools.permutations(given):
+                again = function(**{name: given[name] for name in names})
+                self.assertTrue(same_kind(first, again), call[:2])
+
+    def test_arguments_stay_and_equal_calls_answer_alike(self):
+        for call in CALLS:
+            function = function_of(call)
+            kept = copy.deepcopy(call[3])
+            first = function(*call[3])
+            self.assertTrue(same_kind(call[3], kept), call[:2])
+            self.assertTrue(same_kind(function(*kept), first), call[:2])
+            self.assertTrue(same_kind(function(*call[3]), first), call[:2])
+
+    def test_results_are_plain(self):
+        def are_plain(thing):
+            if type(thing) is tuple:
+                return all(are_plain(part) for part in thing)
+            return thing is None or type(thing) in (int, bool, str)
+        for call in CALLS:
+            self.assertTrue(are_plain(function_of(call)(*call[3])), call[:2])
+
+    def test_each_wrong_argument_alone(self):
+        for call in CALLS:
+            function = function_of(call)
+            for place in range(len(call[3])):
+                for thing, error in wrong_things(call, place):
+                    args = call[3][:place] + (thing,) + call[3][place + 1:]
+                    self.assertEqual(outcome(function, *args), error, (call[:2], place, thing))
+                    given = given_of(call, args)
+                    turned = {name: given[name] for name in list(given)[::-1]}
+                    self.assertEqual(outcome(function, **turned), error, (call[:2], place, thing))
+
+    def test_of_several_wrong_arguments_the_first_one_counts(self):
+        for call in CALLS:
+            function = function_of(call)
+            chance = chance_of(3)
+            for one, two in itertools.combinations(range(len(call[3])), 2):
+                wrong = [wrong_things(call, one), wrong_things(call, two)]
+                if not wrong[0] or not wrong[1]:
+                    continue
+                for _ in range(40):
+                    first, error = chance.choice(wrong[0])
+                    second, _ = chance.choice(wrong[1])
+                    args = list(call[3])
+                    args[one], args[two] = first, second
+                    self.assertEqual(outcome(function, *args), error, (call[:2], args))
+
+    def test_all_arguments_wrong(self):
+        for call in CALLS:
+            for thing in (None, [], True, Odd, "form"):
+                error = due_error((*call[:2], call[2][:1], None), (thing,))
+                self.assertEqual(outcome(function_of(call), *[thing for _ in call[3]]), error, call[:2])
+
+    def test_any_value_is_answered(self):
+        calls = [call for call in CALLS if call[2][-1][1] == "any"]
+        self.assertEqual(len(calls), 4)
+        for call in calls:
+            function = function_of(call)
+            for thing in junk() + [list(call[3][-1]), RING, (0, True), (0, 0.0), ((0,),), (0, None), (1.0,), {0, 1}, "01"]:
+                if type(thing) is tuple and told_row(thing, 2):
+                    continue
+                self.assertIs(function(*call[3][:-1], thing), False, (call[:2], thing))
+            self.assertIs(function(*call[3]), True, call[:2])
+
+    def test_lists_that_are_passed_stay_as_they_are(self):
+        for call in CALLS:
+            for place in range(len(call[3])):
+                things = [[0, [1]], ([0], [1]), ([(0,)],)]
+                kept = copy.deepcopy(things)
+                for thing in things:
+                    outcome(function_of(call), *call[3][:place], thing, *call[3][place + 1:])
+                self.assertEqual(things, kept)
+
+
+class Form(unittest.TestCase):
+    """That the package is one of plain files, without what the language of the program does not have."""
+
+    def files(self):
+        folder = os.path.dirname(importlib.import_module("worksward").__file__)
+        return [os.path.join(folder, name) for name in sorted(os.listdir(folder)) if name != "__pycache__"]
+
+    def test_files(self):
+        for path in self.files():
+            with open(path, encoding="ascii") as file:
+                text = file.read()
+            self.assertTrue(path.endswith(".py"))
+            self.assertNotIn("\t", text)
+            self.assertLess(text.count("\n"), 400)
+            self.assertTrue(all(len(line) <= 120 for line in text.split("\n")), path)
+            for node in ast.walk(ast.parse(text)):
+                if isinstance(node, ast.FunctionDef):
+                    self.assertLessEqual(node.end_lineno - node.lineno, 39, node.name)
+                self.assertNotIsInstance(node, ast.Import)
+                if isinstance(node, ast.ImportFrom):
+                    self.assertTrue(node.module.startswith("worksward."), path)
+
+
+if __name__ == "__main__":
+    unittest.main()

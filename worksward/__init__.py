@@ -1,0 +1,1 @@
+"""Worksward: a house that guards works. Everything is imported from the files of this folder."""

@@ -1,0 +1,162 @@
+"""WISHES: which rows are wished, LEAST WISHES, MEET and JOIN, and what WORKS keep."""
+
+from worksward.basics import (
+    first_out, is_lot, is_number, is_row, is_tuple, is_tuple_of, merged, need_deeds, need_names, need_row, spread, walk,
+)
+from worksward.errors import BadWish, TooMany
+from worksward.works import first_place, is_place, need_works, steps_at
+
+
+def need_wish(deeds, thing):
+    """The thing itself; refuses what is no WISH for so many deeds."""
+    need_deeds(deeds)
+    if not is_tuple(2, thing):
+        raise BadWish("form")
+    steps, good = thing
+    if not is_tuple_of(1, 6, steps):
+        raise BadWish("steps")
+    if not all([is_tuple(deeds, row) and is_row(len(steps), row) for row in steps]):
+        raise BadWish("steps")
+    if not is_lot(len(steps), good) or 0 not in good:
+        raise BadWish("good")
+    return thing
+
+
+def is_good_state(wish, value):
+    """Whether any value is a good state of a WISH."""
+    return is_number(value) and value in wish[1]
+
+
+def is_good_pair(works, wish, value):
+    """Whether any value is a pair of a place, perhaps one that does not come, and a good state."""
+    return is_tuple(2, value) and is_place(works, value[0]) and is_good_state(wish, value[1])
+
+
+def first_pair(works):
+    """The pair of the first place and of 0."""
+    return (first_place(works), 0)
+
+
+def pair_steps(works, wish, pair):
+    """A dict of the deeds that can be done at a pair, ascending, with the pairs behind; None for a bad state."""
+    place, state = pair
+    steps = {}
+    for deed, target in steps_at(works, place).items():
+        after = wish[0][state][deed]
+        steps[deed] = (target, after) if after in wish[1] else None
+    return steps
+
+
+def pair_table(works, wish):
+    """The table of steps of the STANDINGS; a RUN that leads out leads out of it."""
+    def steps_of(pair):
+        return pair_steps(works, wish, pair)
+    return spread(first_pair(works), steps_of)
+
+
+def wish_table(deeds, wish):
+    """The table of steps of the good states behind wished rows; a row that is not wished leads out of it."""
+    def steps_of(state):
+        return {deed: wish[0][state][deed] if wish[0][state][deed] in wish[1] else None for deed in range(deeds)}
+    return spread(0, steps_of)
+
+
+def wish_of_table(deeds, table):
+    """The LEAST WISH of the rows that do not lead out of a table of steps that has all deeds everywhere."""
+    least = merged(table, {node: 0 for node in table})
+    numbers = {}
+    for node, steps in least.items():
+        for target in [node, *list(steps.values())]:
+            numbers.setdefault(target, len(numbers))
+    if len(numbers) > 6:
+        raise TooMany(6)
+    rows = []
+    for node, number in numbers.items():
+        targets = list(least[node].values()) if node is not None else [None] * deeds
+        rows.append(tuple([numbers[target] for target in targets]))
+    return (tuple(rows), tuple([number for node, number in numbers.items() if node is not None]))
+
+
+def state_of(deeds, wish, row):
+    """The state behind a row."""
+    need_wish(deeds, wish)
+    need_row(deeds, row)
+    state = 0
+    for deed in row:
+        state = wish[0][state][deed]
+    return state
+
+
+def is_wished(deeds, wish, value):
+    """Whether any value is a row that is wished, however long."""
+    need_wish(deeds, wish)
+    return walk(wish_table(deeds, wish), 0, value) is not None
+
+
+def least_wish(deeds, wish):
+    """The LEAST WISH of a WISH."""
+    need_wish(deeds, wish)
+    return wish_of_table(deeds, wish_table(deeds, wish))
+
+
+def meet(deeds, wish, other):
+    """The LEAST WISH of the rows that both wish."""
+    need_wish(deeds, wish)
+    need_wish(deeds, other)
+    return _mixed(deeds, wish, other, 1)
+
+
+def join(deeds, wish, other):
+    """The LEAST WISH of the rows that one of them wishes at least."""
+    need_wish(deeds, wish)
+    need_wish(deeds, other)
+    return _mixed(deeds, wish, other, 2)
+
+
+def _mixed(deeds, wish, other, least):
+    """The LEAST WISH of the rows but those that at least so many of both do not wish."""
+    def steps_of(states):
+        steps = {}
+        for deed in range(deeds):
+            targets = _targets(wish, other, states, deed)
+            steps[deed] = targets if targets.count(None) < least else None
+        return steps
+    return wish_of_table(deeds, spread((0, 0), steps_of))
+
+
+def _targets(wish, other, states, deed):
+    """The two states behind a deed, each None from where its WISH does not wish the row."""
+    return (_good_behind(wish, states[0], deed), _good_behind(other, states[1], deed))
+
+
+def _good_behind(wish, state, deed):
+    if state is None or wish[0][state][deed] not in wish[1]:
+        return None
+    return wish[0][state][deed]
+
+
+def wish_renamed(deeds, wish, names):
+    """A WISH with other names: each deed stands as the one at its place of names."""
+    need_wish(deeds, wish)
+    need_names(deeds, names)
+    steps = [tuple([row[names.index(deed)] for deed in range(deeds)]) for row in wish[0]]
+    return (tuple(steps), wish[1])
+
+
+def standings(works, wish):
+    """The ascending tuple of the STANDINGS."""
+    need_works(works)
+    need_wish(works[0], wish)
+    return tuple(sorted(pair_table(works, wish)))
+
+
+def first_unwished(works, wish):
+    """The first RUN that is not wished, or None."""
+    need_works(works)
+    need_wish(works[0], wish)
+    return first_out(pair_table(works, wish))
+
+
+def do_keep(works, wish):
+    """Whether all RUNS are wished."""
+    return first_unwished(works, wish) is None
