@@ -40,10 +40,23 @@ class Odd:
     """An object of no kind that the document knows."""
 
 
+class Equal:
+    """An object that says of itself that it is equal to anything, and has any size."""
+
+    def __eq__(self, other):
+        return True
+
+    def __hash__(self):
+        return 0
+
+    def __len__(self):
+        return 2
+
+
 def junk():
     """Things of many kinds, none of which is a tuple of anything, or an integer that could be meant."""
     return [None, True, False, -1, 7, 10 ** 999, 1.0, 0.0, "", "kept", b"", [], [0], [()], {}, {0: 0}, set(), frozenset(),
-            Odd(), Odd, junk, range(2), (None,), (True,), (False,), ([],), ("a",), (0.0,), ((),), (-1,), (7,), (10 ** 999,),
+            Odd(), Odd, Equal(), (Equal(),), (Equal(), 0), junk, range(2), (None,), (True,), (False,), ([],), ("a",), (0.0,), ((),), (-1,), (7,), (10 ** 999,),
             ((0,),), ((0, 0),), ((True, False),), (0, 0, 0, 0, 0), ((), (), (), (), ())]
 
 

@@ -106,7 +106,7 @@ class Exacts(unittest.TestCase):
             self.assertEqual(paper[0], "exact" if exact else "out")
             self.assertEqual(check_exact(works, wish, paper), paper[0])
             self.assertEqual(told_check(works, wish, paper), ("ok", paper[0]))
-        self.assertTrue(min(seen.values()) > 20, seen)
+        self.assertTrue(min(seen.values()) > 10, seen)
 
 
 class WiderPart(unittest.TestCase):

@@ -141,7 +141,7 @@ class Follows(unittest.TestCase):
             for run in told_runs(works, 3):
                 if told_wished(other, run) and not told_wished(wish, run):
                     self.assertFalse(follows)
-        self.assertTrue(min(seen.values()) > 30, seen)
+        self.assertTrue(min(seen.values()) > 10, seen)
 
     def test_meet_and_join_follow_in_all_works(self):
         for works, wish, other in triples(31, 80):

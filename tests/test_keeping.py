@@ -3,7 +3,7 @@
 import itertools
 import unittest
 
-from common import (CUBE, RING, SAMPLES, STILL, TRAP, chance_of, mutations, outcome, some_wish, some_works, told_ascending,
+from common import (CUBE, Equal, RING, SAMPLES, STILL, TRAP, chance_of, mutations, outcome, some_wish, some_works, told_ascending,
                     told_do, told_goal, told_is_pair, told_lot, told_next, told_place, told_rows, told_runs,
                     told_standings, told_start, told_tuple, told_wished)
 from worksward.errors import BadPaper, Nothing, OutOfPlace
@@ -389,6 +389,25 @@ class KeepingPapers(unittest.TestCase):
         self.bad("lost", works[:2] + ((0,),) + works[3:], wish, ("lost", (one, two)))
         self.bad("lost", works, wish, ("lost", (one, ("free", ((((0,), 0), 1),)))))
         self.bad("lost", works, wish, ("lost", (("free", ((((1,), 0), 0),)), two)))
+
+    def test_stages_ascend_though_pairs_come_otherwise(self):
+        # The place 2 comes ahead of 1; from both a deed of FREE leads out at once.
+        works = (2, (((0, 1), (((0, 2), (1, 1)), ((0, 0),), ((0, 0),))),), (0,), ((0,),))
+        wish = (((1, 2), (3, 3), (3, 3), (3, 3)), (0, 1, 2))
+        one, two = ((1,), 2), ((2,), 1)
+        self.assertEqual(keeping_paper(works, wish),
+                         ("lost", (("free", ((one, 0), (two, 0))), ("free", ((((0,), 0), 0),)))))
+        self.bad("lost", works, wish, ("lost", (("free", ((two, 0), (one, 0))), ("free", ((((0,), 0), 0),)))))
+        # And from both nothing leads on to a GOAL.
+        end = (2, (((0, 1), (((0, 2), (1, 1)), (), ())),), (), ((),))
+        self.assertEqual(keeping_paper(end, ALL[2]), ("lost", (("still", (((0,), 0), ((1,), 0), ((2,), 0))),)))
+
+    def test_stages_of_no_word(self):
+        shut = (3, (((0, 1, 2), (((0, 1), (1, 1)), ())),), (1,), ((0,),))
+        stages = (("still", (((1,), 0),)), ("free", ((((0,), 0), 1),)))
+        for word in ("kept", "", None, True, Equal(), ("still",), b"still", "Still"):
+            self.bad("lost", shut, ALL[3], ("lost", ((word, ()),) + stages))
+            self.bad("form", shut, ALL[3], ("still" if type(word) is str else word, stages))
 
     def test_papers_that_are_otherwise(self):
         chance = chance_of(53)

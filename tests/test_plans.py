@@ -112,6 +112,7 @@ class WorksOf(unittest.TestCase):
         thing = (3, (((0, 1), (2, 0)), ()), (1,))
         self.assertEqual(works_of(thing, (0, 2)), (3, (((0, 1, 2), thing[1]),), (0, 2), ((1,),)))
         self.assertEqual(works_of((1, ((),), ()), ()), (1, (((0,), ((),)),), (), ((),)))
+        self.assertEqual(works_of((6, (((5, 0),),), (0,)), (5,)), (6, (((0, 1, 2, 3, 4, 5), (((5, 0),),)),), (5,), ((0,),)))
 
     def test_numbers_need_not_come(self):
         thing = (1, ((), ((0, 3),), (), ((0, 1),)), (0, 2))

@@ -161,7 +161,7 @@ class Estimates(unittest.TestCase):
                         self.assertEqual(outcome(estimate, works, wish, sight, look), ("ok", due))
                     else:
                         self.assertEqual(outcome(estimate, works, wish, sight, look), ("TooMany", 12))
-        self.assertTrue(min(seen.values()) > 100, seen)
+        self.assertTrue(min(seen.values()) > 50, seen)
 
     def test_by_all_short_runs(self):
         """The ESTIMATE straight by its words, as far as short RUNS tell."""

@@ -213,6 +213,7 @@ class LeastWishes(unittest.TestCase):
                 if told[0] == "ok":
                     seen[name] += 1
                     self.check_least(deeds, told[1])
+                    self.assertEqual(len(told[1][0]), self.many_kinds(deeds, one, two, mix))
                     self.assertTrue(told_same(deeds, told[1], lambda row: mix([told_wished(one, row), told_wished(two, row)])))
                 else:
                     seen["many"] += 1
@@ -221,10 +222,20 @@ class LeastWishes(unittest.TestCase):
         self.assertTrue(min(seen.values()) > 5, seen)
 
     def many_kinds(self, deeds, one, two, mix):
-        """How many kinds of rows there are by what is wished behind them, of both together."""
-        tails = list(told_rows(deeds, 3))
-        return len({tuple(mix([told_wished(one, row + tail), told_wished(two, row + tail)]) for tail in tails)
-                    for row in told_rows(deeds, 5 if deeds < 3 else 4)})
+        """How many states the rows want that both wish, or one of them, by all couples of states."""
+        couples = [(0, 0)]
+        rows = []
+        for couple in couples:
+            row = []
+            for deed in range(deeds):
+                after = tuple(wish[0][state][deed] if state is not None and wish[0][state][deed] in wish[1] else None
+                              for wish, state in zip((one, two), couple))
+                if after not in couples:
+                    couples.append(after)
+                row.append(couples.index(after))
+            rows.append(tuple(row))
+        good = tuple(k for k, couple in enumerate(couples) if mix([state is not None for state in couple]))
+        return told_kinds(deeds, (tuple(rows), good))
 
     def test_at_most_6_states(self):
         # Of two deeds: not twice the one, not three times the other.
