@@ -8,7 +8,7 @@ import itertools
 import os
 import unittest
 
-from common import (CUBE, Odd, MANY, RING, SHARED, SIX, TRAP, chance_of, junk, mutations, outcome, same_kind, told_int,
+from common import (BOUND24, CUBE, JUST24, MORE32, PAIR24, PAIR32, WIDE27, Odd, MANY, RING, SHARED, SIX, TRAP, chance_of, junk, mutations, outcome, same_kind, told_int,
                     told_is_place, told_lot, told_place, told_row, told_saying, told_steps, told_tuple, told_wish, told_works)
 
 OUT = ("OutOfPlace",)
@@ -253,6 +253,27 @@ class Arguments(unittest.TestCase):
             for thing in (None, [], True, Odd, "form"):
                 error = due_error((*call[:2], call[2][:1], None), (thing,))
                 self.assertEqual(outcome(function_of(call), *[thing for _ in call[3]]), error, call[:2])
+
+    def test_too_many_places_come_ahead_of_what_stands_behind(self):
+        for call in CALLS:
+            if call[2][0][1] != "works":
+                continue
+            function = function_of(call)
+            behind = [None for _ in call[3][1:]]
+            for works in (MANY, MORE32, PAIR32, WIDE27):
+                self.assertEqual(outcome(function, works, *behind), ("TooMany", 24), call[:2])
+                self.assertEqual(outcome(function, works, *call[3][1:]), ("TooMany", 24), call[:2])
+            for works in (JUST24, BOUND24, PAIR24):
+                error = due_error(call, (works, *behind))
+                if error is not None:
+                    self.assertEqual(outcome(function, works, *behind), error, call[:2])
+
+    def test_other_works_with_too_many_places(self):
+        for call in CALLS:
+            if ("other", "other") in call[2]:
+                for works in (MANY, MORE32, PAIR32, WIDE27):
+                    args = (call[3][0], works, *call[3][2:])
+                    self.assertEqual(outcome(function_of(call), *args), ("TooMany", 24), call[:2])
 
     def test_any_value_is_answered(self):
         calls = [call for call in CALLS if call[2][-1][1] == "any"]

@@ -2,8 +2,8 @@
 
 import unittest
 
-from common import (CUBE, MANY, RING, SAMPLES, SHARED, SIX, STILL, TRAP, WIDE, at_path, chance_of, mutations, outcome,
-                    paths_of, same_kind, some_works, told_all_places, told_do, told_goal, told_place, told_places,
+from common import (BOUND24, CUBE, JUST24, MANY, MORE32, PAIR24, PAIR32, RING, SAMPLES, SHARED, SIX, STILL, TRAP, WIDE, WIDE27, at_path, chance_of, mutations,
+                    outcome, paths_of, same_kind, some_machine, some_works, told_all_places, told_do, told_goal, told_place, told_places,
                     told_rows, told_works)
 from worksward.errors import BadWorks, OutOfPlace, TooMany
 from worksward.works import behind, doable, is_goal, is_run, need_works, place_of, places
@@ -103,6 +103,28 @@ class NeedWorks(unittest.TestCase):
         # 64 places, of which few come.
         stuck = machine((0,), (), ((0, 2),), ((0, 3),), ())
         self.assertEqual(places((1, (stuck,) * 3, (), ((), (), ()))), ((0, 0, 0),))
+
+
+    def test_just_24_places_of_many_more_that_could_come(self):
+        for works in (JUST24, BOUND24, PAIR24):
+            self.assertEqual([len(rows) for _, rows in works[1]], [4, 4, 4])
+            self.assertEqual(len(told_places(works)), 24)
+            self.assertIs(need_works(works), works)
+            self.assertEqual(places(works), tuple(sorted(told_places(works))))
+        for works, many in ((MORE32, 32), (PAIR32, 32), (WIDE27, 27), (MANY, 25)):
+            self.assertEqual(len(told_places(works)), many)
+            self.assertEqual(outcome(need_works, works), ("TooMany", 24))
+
+    def test_how_many_places_by_chance(self):
+        chance = chance_of(6)
+        counts = {}
+        while min([counts.get(many, 0) for many in (23, 24, 25, 26)]) < 4:
+            deeds = chance.randint(1, 6)
+            parts = tuple(some_machine(chance, deeds, 4, 0.8) for _ in range(3))
+            works = (deeds, parts, (), ((), (), ()))
+            many = len(told_places(works))
+            counts[many] = counts.get(many, 0) + 1
+            self.assertEqual(outcome(need_works, works), ("ok", works) if many <= 24 else ("TooMany", 24), works)
 
     def test_things_that_are_otherwise_at_one_path(self):
         chance = chance_of(2)

@@ -1,7 +1,7 @@
 """The check of papers on whether two WORKS are alike."""
 
 from worksward.basics import is_lot_of, is_row, is_tuple, need_paper, need_proof, walk
-from worksward.works import first_place, has_goal, is_place, need_other, need_works, place_table, steps_at
+from worksward.works import first_place, has_goal, is_place, need_other, need_works, stepper
 
 
 def check_alike(works, other, paper):
@@ -22,15 +22,17 @@ def _is_alike_table(works, other, table):
     lot = {couple: True for couple in table}
     if (first_place(works), first_place(other)) not in lot:
         return False
-    return all([_goes_alike(works, other, couple, lot) for couple in table])
+    steps_at = stepper(works)
+    others_at = stepper(other)
+    for one, two in table:
+        if has_goal(works, one) != has_goal(other, two) or not _go_alike(steps_at(one), others_at(two), lot):
+            return False
+    return True
 
 
-def _goes_alike(works, other, couple, lot):
-    """Whether both places of a couple are alike at once, and each deed leads to a couple of the lot."""
-    one, two = couple
-    steps = steps_at(works, one)
-    others = steps_at(other, two)
-    if list(steps) != list(others) or has_goal(works, one) != has_goal(other, two):
+def _go_alike(steps, others, lot):
+    """Whether the same deeds can be done at two places, and each leads to a couple of the lot."""
+    if list(steps) != list(others):
         return False
     return all([(target, others[deed]) in lot for deed, target in steps.items()])
 
@@ -38,12 +40,15 @@ def _goes_alike(works, other, couple, lot):
 def _is_unlike_run(works, other, run):
     if not is_row(works[0], run):
         return False
-    one = walk(place_table(works), first_place(works), run)
-    two = walk(place_table(other), first_place(other), run)
+    steps_at = stepper(works)
+    others_at = stepper(other)
+    one = walk(steps_at, first_place(works), run)
+    two = walk(others_at, first_place(other), run)
     if one is not None and two is not None:
         return has_goal(works, one) != has_goal(other, two)
     if one is None and two is None:
         return False
     # One of both has the whole RUN, so all its beginnings are RUNS of that one already.
-    return all([walk(place_table(works), first_place(works), run[:-1]) is not None,
-                walk(place_table(other), first_place(other), run[:-1]) is not None])
+    if one is None:
+        return walk(steps_at, first_place(works), run[:-1]) is not None
+    return walk(others_at, first_place(other), run[:-1]) is not None

@@ -5,17 +5,17 @@ rows that lead to them, a dict of the deeds that can be done there, ascending, e
 the node behind it, or with None where that deed leads out of the table.
 """
 
-from worksward.errors import BadPaper, OutOfPlace
+from worksward.errors import BadPaper, OutOfPlace, TooMany
 
 
 def is_number(value):
     """Whether it is an integer; True and False are none."""
-    return isinstance(value, int) and not isinstance(value, bool)
+    return isinstance(value, int) and value is not True and value is not False
 
 
 def is_below(many, value):
     """Whether it is an integer from 0 to many - 1."""
-    return is_number(value) and 0 <= value < many
+    return isinstance(value, int) and value is not True and value is not False and 0 <= value < many
 
 
 def is_tuple(many, value):
@@ -30,22 +30,42 @@ def is_tuple_of(least, most, value):
 
 def are_ascending(things):
     """Whether each thing is greater than the one ahead; they must be such as can be compared."""
-    return all([one < other for one, other in zip(things, things[1:])])
+    for one, other in zip(things, things[1:]):
+        if not one < other:
+            return False
+    return True
 
 
 def is_row(many, value):
     """Whether it is a tuple, of any length, of integers from 0 to many - 1."""
-    return isinstance(value, tuple) and all([is_below(many, thing) for thing in value])
+    if not isinstance(value, tuple):
+        return False
+    for thing in value:
+        if not isinstance(thing, int) or thing is True or thing is False or not 0 <= thing < many:
+            return False
+    return True
 
 
 def is_lot(many, value):
     """Whether it is an ascending tuple of integers from 0 to many - 1."""
-    return is_row(many, value) and are_ascending(value)
+    if not isinstance(value, tuple):
+        return False
+    least = 0
+    for thing in value:
+        if not isinstance(thing, int) or thing is True or thing is False or not least <= thing < many:
+            return False
+        least = thing + 1
+    return True
 
 
 def is_lot_of(is_one, value):
     """Whether it is an ascending tuple of things of which each is one as told."""
-    return isinstance(value, tuple) and all([is_one(thing) for thing in value]) and are_ascending(value)
+    if not isinstance(value, tuple):
+        return False
+    for thing in value:
+        if not is_one(thing):
+            return False
+    return are_ascending(value)
 
 
 def is_list_by(is_key, value):
@@ -89,17 +109,24 @@ def need_proof(word, holds):
     return word
 
 
-def spread(first, steps_at):
-    """The table of steps of all nodes that come from the first one; steps_at gives those of one node."""
+def spread(first, steps_at, most=100000):
+    """The table of steps of all nodes that come from the first one; steps_at gives those of one node.
+
+    It refuses more than so many, and looks at none behind the first one that is too many.
+    """
     table = {first: steps_at(first)}
-    queue = [first]
-    at = 0
-    while at < len(queue):
-        for node in list(table[queue[at]].values()):
-            if node is not None and node not in table:
-                table[node] = steps_at(node)
-                queue.append(node)
-        at += 1
+    layer = [first]
+    while len(layer) > 0:
+        following = []
+        for node in layer:
+            steps = table[node]
+            for target in steps.values():
+                if target is not None and target not in table:
+                    if len(table) == most:
+                        raise TooMany(most)
+                    following.append(target)
+                    table[target] = steps_at(target)
+        layer = following
     return table
 
 
@@ -117,72 +144,106 @@ def first_rows(table):
 
 def first_out(table):
     """The first row that leads out of a table, or None."""
-    rows = first_rows(table)
     for node, steps in table.items():
         for deed, target in steps.items():
             if target is None:
-                return rows[node] + (deed,)
+                return first_rows(table)[node] + (deed,)
     return None
 
 
-def walk(table, first, value):
+def walk(steps_at, first, value):
     """The node to which any value leads as a row, or None if it leads nowhere, or out, or is no row."""
     if not isinstance(value, tuple):
         return None
     node = first
     for deed in value:
-        if node is None or not is_number(deed):
+        if node is None or not isinstance(deed, int) or deed is True or deed is False:
             return None
-        node = table[node].get(deed)
+        node = steps_at(node).get(deed)
     return node
 
 
 def leading(table, ends):
     """A dict of the nodes of a table from which some row, perhaps (), leads to one of the ends."""
-    lot = {node: True for node in table if node in ends}
-    before = -1
-    while before < len(lot):
-        before = len(lot)
-        for node, steps in table.items():
-            if any([target in lot for target in list(steps.values())]):
+    sources = {node: [] for node in table}
+    for node, steps in table.items():
+        for target in steps.values():
+            if target in sources:
+                sources[target].append(node)
+    waiting = [node for node in table if node in ends]
+    lot = {node: True for node in waiting}
+    while len(waiting) > 0:
+        end = waiting.pop()
+        for node in sources[end]:
+            if node not in lot:
                 lot[node] = True
+                waiting.append(node)
     return lot
 
 
+def many_rows(table, length):
+    """How many rows of so many deeds the table has, of those that do not lead out."""
+    rows = targets_in(table)
+    out = len(table)
+    counts = [0] * out
+    counts[0] = 1
+    for _ in range(length):
+        longer = [0] * (out + 1)
+        for many, row in zip(counts, rows):
+            if many > 0:
+                for target in row:
+                    longer[target] += many
+        counts = longer[:out]
+    return sum(counts)
+
+
+def targets_in(table):
+    """For each node of a table the numbers of the nodes behind its deeds, one more than all for what leads out."""
+    numbers = {node: number for number, node in enumerate(table)}
+    numbers[None] = len(table)
+    return [[numbers[target] for target in steps.values()] for steps in table.values()]
+
+
 def numbered(signs):
-    """For each key of a dict a number, the same one for those with the same sign."""
+    """For each of the signs a number, the same one for equal ones; and how many numbers there are."""
     numbers = {}
-    return {key: numbers.setdefault(sign, len(numbers)) for key, sign in signs.items()}
+    found = []
+    for sign in signs:
+        if sign not in numbers:
+            numbers[sign] = len(numbers)
+        found.append(numbers[sign])
+    return found, len(numbers)
 
 
 def kinds_of(table, marks):
     """For each node its kind: two have the same one if by all rows they go on alike, and with the same marks."""
-    kinds = numbered(marks)
+    kinds, many = numbered([(marks[node], *steps) for node, steps in table.items()])
+    rows = targets_in(table)
     before = 0
-    while before < 1 + max(kinds.values()):
-        before = 1 + max(kinds.values())
-        signs = {}
-        for node, steps in table.items():
-            signs[node] = (kinds[node], tuple([(deed, kinds.get(target, -1)) for deed, target in steps.items()]))
-        kinds = numbered(signs)
-    return kinds
+    while before < many < len(table):
+        before = many
+        kinds.append(-1)
+        signs = [(kind, *[kinds[target] for target in row]) for kind, row in zip(kinds, rows)]
+        kinds, many = numbered(signs)
+    return {node: kind for node, kind in zip(table, kinds)}
 
 
 def merged(table, marks):
     """The table in which the first node of each kind stands for all of its kind."""
     kinds = kinds_of(table, marks)
     firsts = {}
-    for node in table:
-        firsts.setdefault(kinds[node], node)
+    for node, kind in kinds.items():
+        if kind not in firsts:
+            firsts[kind] = node
     least = {}
-    for node in list(firsts.values()):
+    for node in firsts.values():
         steps = table[node]
-        least[node] = {deed: firsts.get(kinds.get(target, -1)) for deed, target in steps.items()}
+        least[node] = {deed: None if to is None else firsts[kinds[to]] for deed, to in steps.items()}
     return least
 
 
 def plan_of(deeds, table, goals):
     """The PLAN of a table from which nothing leads out; goals are the nodes that are GOALS."""
     numbers = {node: number for number, node in enumerate(table)}
-    rows = tuple([tuple([(deed, numbers[node]) for deed, node in steps.items()]) for steps in table.values()])
-    return (deeds, rows, tuple([number for node, number in numbers.items() if node in goals]))
+    rows = [tuple([(deed, numbers[node]) for deed, node in steps.items()]) for steps in table.values()]
+    return (deeds, tuple(rows), tuple([number for node, number in numbers.items() if node in goals]))

@@ -2,7 +2,7 @@
 
 from worksward.basics import first_out, spread
 from worksward.wishes import need_wish
-from worksward.works import first_place, need_works, steps_at
+from worksward.works import first_place, need_works, stepper
 
 
 def does_follow(works, wish, other):
@@ -29,14 +29,18 @@ def _need_both(works, wish, other):
 
 def _follow_table(works, wish, other):
     """The table of steps of the triples behind RUNS that both wish; what only the other wishes leads out."""
+    steps_at = stepper(works)
+    rows, good = wish
+    others, others_good = other
+
     def steps_of(triple):
         place, one, two = triple
         steps = {}
-        for deed, target in steps_at(works, place).items():
-            after = other[0][one][deed]
-            if after in other[1]:
-                is_good = wish[0][two][deed] in wish[1]
-                steps[deed] = (target, after, wish[0][two][deed]) if is_good else None
+        for deed, target in steps_at(place).items():
+            after = others[one][deed]
+            if after in others_good:
+                state = rows[two][deed]
+                steps[deed] = (target, after, state) if state in good else None
         return steps
     return spread((first_place(works), 0, 0), steps_of)
 

@@ -1,8 +1,8 @@
 """How WORKS go on: first RUNS, how many there are, places that are still or lost."""
 
-from worksward.basics import first_rows, is_below, leading
+from worksward.basics import first_rows, is_below, leading, many_rows
 from worksward.errors import Nothing, OutOfPlace
-from worksward.works import first_place, goals_among, need_place, need_works, place_table
+from worksward.works import goals_among, need_place, need_works, place_table
 
 
 def first_run(works, place):
@@ -20,20 +20,7 @@ def many_runs(works, length):
     need_works(works)
     if not is_below(41, length):
         raise OutOfPlace("length is not an integer from 0 to 40")
-    table = place_table(works)
-    counts = {first_place(works): 1}
-    for _ in range(length):
-        counts = _counts_behind(table, counts)
-    return sum(counts.values())
-
-
-def _counts_behind(table, counts):
-    """How many RUNS with one deed more have each place."""
-    longer = {}
-    for place, many in counts.items():
-        for target in list(table[place].values()):
-            longer[target] = longer.get(target, 0) + many
-    return longer
+    return many_rows(place_table(works), length)
 
 
 def still_places(works):

@@ -2,8 +2,8 @@
 
 from worksward.basics import leading, plan_of, spread, walk
 from worksward.errors import Nothing, OutOfPlace
-from worksward.wishes import first_pair, need_wish, pair_table, standings
-from worksward.works import has_goal, need_run, need_works
+from worksward.wishes import first_pair, need_both, pair_table, standings
+from worksward.works import has_goal, need_run
 
 
 def both_pairs(works, wish):
@@ -13,17 +13,19 @@ def both_pairs(works, wish):
 
 def can_keep(works, wish):
     """Whether a WISH can be kept."""
-    _need_both(works, wish)
-    return _kept_steps(works, wish) is not None
+    need_both(works, wish)
+    _, gone = _stages(works, pair_table(works, wish))
+    return first_pair(works) not in gone
 
 
 def keeping_paper(works, wish):
     """A paper on whether a WISH can be kept."""
-    _need_both(works, wish)
-    kept = _kept_steps(works, wish)
-    if kept is None:
-        return ("lost", tuple(_stages(works, wish)))
-    return ("kept", _table_of(kept))
+    need_both(works, wish)
+    table = pair_table(works, wish)
+    stages, gone = _stages(works, table)
+    if first_pair(works) in gone:
+        return ("lost", tuple(stages))
+    return ("kept", _table_of(_steps_left(works, table, gone)))
 
 
 def greatest_part(works, wish):
@@ -33,17 +35,17 @@ def greatest_part(works, wish):
 
 def is_let(works, wish, value):
     """Whether any value is a RUN of the GREATEST PART, however long."""
-    _need_both(works, wish)
+    need_both(works, wish)
     kept = _kept_steps(works, wish)
-    return kept is not None and walk(kept, first_pair(works), value) is not None
+    return kept is not None and _walk_kept(works, kept, value) is not None
 
 
 def let_deeds(works, wish, run):
     """The ascending tuple of the deeds behind which a RUN of the GREATEST PART is one still."""
-    _need_both(works, wish)
+    need_both(works, wish)
     need_run(works, run)
     kept = _kept_steps(works, wish)
-    pair = None if kept is None else walk(kept, first_pair(works), run)
+    pair = None if kept is None else _walk_kept(works, kept, run)
     if pair is None:
         raise OutOfPlace("the run is none of the greatest part")
     return tuple(kept[pair])
@@ -55,14 +57,9 @@ def kept_plan(works, wish):
     return plan_of(works[0], kept, _goals_among(works, kept))
 
 
-def _need_both(works, wish):
-    need_works(works)
-    need_wish(works[0], wish)
-
-
 def _need_kept(works, wish):
     """The table of steps of the GREATEST PART; refuses a WISH that cannot be kept."""
-    _need_both(works, wish)
+    need_both(works, wish)
     kept = _kept_steps(works, wish)
     if kept is None:
         raise Nothing("the wish cannot be kept")
@@ -77,18 +74,27 @@ def _goals_among(works, pairs):
     return {pair: True for pair in pairs if has_goal(works, pair[0])}
 
 
+def _walk_kept(works, kept, value):
+    """The PAIR of any value as a RUN of the GREATEST PART, or None."""
+    def steps_at(pair):
+        return kept[pair]
+    return walk(steps_at, first_pair(works), value)
+
+
 def _kept_steps(works, wish):
     """The table of steps of the GREATEST PART, or None if the WISH cannot be kept."""
-    gone = {}
-    for stage in _stages(works, wish):
-        gone = _gone_behind(stage, gone)
-    if first_pair(works) in gone:
-        return None
-    table = _without(pair_table(works, wish), gone)
+    table = pair_table(works, wish)
+    _, gone = _stages(works, table)
+    return None if first_pair(works) in gone else _steps_left(works, table, gone)
 
-    def steps_of(pair):
-        return table[pair]
-    return spread(first_pair(works), steps_of)
+
+def _steps_left(works, table, gone):
+    """The table of steps of what comes without the PAIRS that are gone."""
+    rest = _without(table, gone)
+
+    def steps_at(pair):
+        return rest[pair]
+    return spread(first_pair(works), steps_at)
 
 
 def _without(table, gone):
@@ -100,40 +106,36 @@ def _without(table, gone):
     return rest
 
 
-def _stages(works, wish):
-    """The stages in which PAIRS that come are lost, up to that of the first PAIR, or all there are."""
-    table = pair_table(works, wish)
+def _stages(works, table):
+    """The stages in which PAIRS that come are lost, up to that of the first PAIR, or all; and the PAIRS in them."""
+    first = first_pair(works)
     gone = {}
     stages = []
-    while first_pair(works) not in gone:
-        stage = _free_stage(works, table, gone)
-        if len(stage[1]) == 0:
-            stage = _still_stage(works, table, gone)
-        if len(stage[1]) == 0:
-            return stages
-        stages.append(stage)
-        gone = _gone_behind(stage, gone)
-    return stages
+    while first not in gone:
+        rows = _freely_lost(works, table, gone)
+        lot = [pair for pair, _ in rows] if len(rows) > 0 else _still_lost(works, table, gone)
+        if len(lot) == 0:
+            break
+        stages.append(("free", tuple(sorted(rows))) if len(rows) > 0 else ("still", tuple(sorted(lot))))
+        for pair in lot:
+            gone[pair] = True
+    return stages, gone
 
 
-def _gone_behind(stage, gone):
-    """The PAIRS that are gone behind a stage."""
-    pairs = list(stage[1]) if stage[0] == "still" else [pair for pair, _ in stage[1]]
-    return {pair: True for pair in [*list(gone), *pairs]}
-
-
-def _free_stage(works, table, gone):
-    """The stage of the PAIRS from which a deed of FREE leads to one that is not good, or gone."""
+def _freely_lost(works, table, gone):
+    """The PAIRS from which a deed of FREE leads to one that is not good, or gone, each with this deed."""
     rows = []
     for pair, steps in table.items():
         if pair not in gone:
-            bad = [deed for deed, to in steps.items() if deed in works[2] and (to is None or to in gone)]
-            rows += [(pair, deed) for deed in bad[:1]]
-    return ("free", tuple(sorted(rows)))
+            for deed in works[2]:
+                if deed in steps and (steps[deed] is None or steps[deed] in gone):
+                    rows.append((pair, deed))
+                    break
+    return rows
 
 
-def _still_stage(works, table, gone):
-    """The stage of the PAIRS from which nothing that is not gone leads to a GOAL."""
+def _still_lost(works, table, gone):
+    """The PAIRS from which nothing that is not gone leads to a GOAL."""
     rest = _without(table, gone)
     led = leading(rest, _goals_among(works, rest))
-    return ("still", tuple(sorted([pair for pair in rest if pair not in led])))
+    return [pair for pair in rest if pair not in led]

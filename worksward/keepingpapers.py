@@ -1,14 +1,13 @@
 """The check of papers on whether a WISH can be kept."""
 
 from worksward.basics import is_list_by, is_lot, is_lot_of, is_number, is_tuple, leading, need_paper, need_proof
-from worksward.wishes import first_pair, is_good_pair, need_wish, pair_steps
-from worksward.works import has_goal, need_works
+from worksward.wishes import first_pair, is_good_pair, need_both, pair_stepper
+from worksward.works import has_goal
 
 
 def check_keeping(works, wish, paper):
     """The word of a paper on whether a WISH can be kept."""
-    need_works(works)
-    need_wish(works[0], wish)
+    need_both(works, wish)
     word = need_paper(paper, {"kept": 2, "lost": 2})
     if word == "kept":
         return need_proof(word, _is_kept_table(works, wish, paper[1]))
@@ -23,33 +22,32 @@ def _is_kept_table(works, wish, table):
     lists = {pair: deeds for pair, deeds in table}
     if first_pair(works) not in lists:
         return False
-    if not all([_is_kept_row(works, wish, pair, lists) for pair in lists]):
-        return False
-    steps = {pair: _listed_steps(works, wish, pair, deeds) for pair, deeds in lists.items()}
+    steps_at = pair_stepper(works, wish)
+    listed = {}
+    for pair, deeds in table:
+        steps = steps_at(pair)
+        if not _is_kept_row(works, steps, deeds, lists):
+            return False
+        listed[pair] = {deed: steps[deed] for deed in deeds}
     goals = {pair: True for pair in lists if has_goal(works, pair[0])}
-    return len(leading(steps, goals)) == len(lists)
+    return len(leading(listed, goals)) == len(lists)
 
 
-def _is_kept_row(works, wish, pair, lists):
+def _is_kept_row(works, steps, deeds, lists):
     """Whether the deeds listed for a PAIR can be done, lead to listed PAIRS, and all such ones of FREE are there."""
-    steps = pair_steps(works, wish, pair)
-    if not all([deed in lists[pair] for deed in steps if deed in works[2]]):
+    if not all([deed in deeds for deed in works[2] if deed in steps]):
         return False
-    return all([steps.get(deed) in lists for deed in lists[pair]])
-
-
-def _listed_steps(works, wish, pair, deeds):
-    steps = pair_steps(works, wish, pair)
-    return {deed: steps[deed] for deed in deeds}
+    return all([steps.get(deed) in lists for deed in deeds])
 
 
 def _are_lost_stages(works, wish, stages):
     if not isinstance(stages, tuple) or not all([_is_stage(works, wish, stage) for stage in stages]):
         return False
+    steps_at = pair_stepper(works, wish)
     gone = {}
     for stage in stages:
         pairs = _pairs_of(stage)
-        if any([pair in gone for pair in pairs]) or not _is_lost_by(works, wish, stage, gone):
+        if any([pair in gone for pair in pairs]) or not _is_lost_by(works, steps_at, stage, gone):
             return False
         for pair in pairs:
             gone[pair] = True
@@ -73,21 +71,21 @@ def _pairs_of(stage):
     return tuple([pair for pair, _ in stage[1]])
 
 
-def _is_lost_by(works, wish, stage, gone):
+def _is_lost_by(works, steps_at, stage, gone):
     """Whether a stage holds, the PAIRS of those ahead being gone."""
     if stage[0] == "free":
-        return all([deed in works[2] and _leads_away(works, wish, pair, deed, gone) for pair, deed in stage[1]])
+        return all([deed in works[2] and _leads_away(steps_at(pair), deed, gone) for pair, deed in stage[1]])
     away = {pair: True for pair in [*list(gone), *stage[1]]}
-    return all([_is_shut(works, wish, pair, away) for pair in stage[1]])
+    return all([_is_shut(works, steps_at, pair, away) for pair in stage[1]])
 
 
-def _leads_away(works, wish, pair, deed, gone):
+def _leads_away(steps, deed, gone):
     """Whether a deed can be done, and leads to a PAIR that is not good or is gone."""
-    steps = pair_steps(works, wish, pair)
     return deed in steps and (steps[deed] is None or steps[deed] in gone)
 
 
-def _is_shut(works, wish, pair, away):
+def _is_shut(works, steps_at, pair, away):
     """Whether a PAIR is no GOAL, and all deeds lead from it to PAIRS that are not good, or away."""
-    targets = list(pair_steps(works, wish, pair).values())
-    return not has_goal(works, pair[0]) and all([target is None or target in away for target in targets])
+    if has_goal(works, pair[0]):
+        return False
+    return all([target is None or target in away for target in steps_at(pair).values()])

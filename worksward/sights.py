@@ -1,8 +1,8 @@
 """SIGHTS, the LOOKS of RUNS by them, and ESTIMATES."""
 
-from worksward.basics import is_lot, need_row
-from worksward.errors import OutOfPlace, TooMany
-from worksward.wishes import first_pair, need_wish, pair_table
+from worksward.basics import is_lot, need_row, spread
+from worksward.errors import OutOfPlace
+from worksward.wishes import first_pair, need_both, pair_stepper
 from worksward.works import need_run, need_works
 
 
@@ -22,41 +22,48 @@ def look_of(works, sight, run):
 
 def estimate(works, wish, sight, look):
     """The ESTIMATE of a LOOK."""
-    need_works(works)
-    need_wish(works[0], wish)
+    need_both(works, wish)
     need_sight(works[0], sight)
     need_row(works[0], look)
-    table = pair_table(works, wish)
-    known = first_estimate(works, sight, table)
+    steps_at = pair_stepper(works, wish)
+    known = first_estimate(works, sight, steps_at)
     for deed in look:
         if deed not in sight or known[1]:
             raise OutOfPlace("not a look, or something is out ahead of its end")
-        known = next_estimate(sight, table, known, deed)
+        known = next_estimate(sight, steps_at, known, deed)
     if known == ((), False):
         raise OutOfPlace("the look of no run")
-    if len(table) > 12:
-        raise TooMany(12)
+    spread(first_pair(works), steps_at, 12)
     return known
 
 
-def first_estimate(works, sight, table):
-    """The ESTIMATE of () by a table of steps of STANDINGS."""
-    return _estimate_of(sight, table, [first_pair(works)])
+def first_estimate(works, sight, steps_at):
+    """The ESTIMATE of () by the steps of STANDINGS."""
+    return _estimate_of(sight, steps_at, [first_pair(works)])
 
 
-def next_estimate(sight, table, known, deed):
+def next_estimate(sight, steps_at, known, deed):
     """The ESTIMATE behind a seen deed more, nothing being out ahead of it."""
-    return _estimate_of(sight, table, [table[pair][deed] for pair in known[0] if deed in table[pair]])
+    starts = []
+    for pair in known[0]:
+        steps = steps_at(pair)
+        if deed in steps:
+            starts.append(steps[deed])
+    return _estimate_of(sight, steps_at, starts)
 
 
-def _estimate_of(sight, table, starts):
+def _estimate_of(sight, steps_at, starts):
     """The ESTIMATE of what comes from some STANDINGS, or None for what is out, by deeds that are not seen."""
+    is_out = False
     lot = {}
-    waiting = list(starts)
+    waiting = starts
     while len(waiting) > 0:
         pair = waiting.pop()
-        if pair not in lot:
+        if pair is None:
+            is_out = True
+        elif pair not in lot:
             lot[pair] = True
-            steps = table[pair] if pair is not None else {}
-            waiting += [target for deed, target in steps.items() if deed not in sight]
-    return (tuple(sorted([pair for pair in lot if pair is not None])), None in lot)
+            for deed, target in steps_at(pair).items():
+                if deed not in sight:
+                    waiting.append(target)
+    return (tuple(sorted(lot)), is_out)

@@ -1,25 +1,40 @@
 """WISHES: which rows are wished, LEAST WISHES, MEET and JOIN, and what WORKS keep."""
 
 from worksward.basics import (
-    first_out, is_lot, is_number, is_row, is_tuple, is_tuple_of, merged, need_deeds, need_names, need_row, spread, walk,
+    first_out, is_lot, is_number, merged, need_deeds, need_names, need_row, spread,
 )
 from worksward.errors import BadWish, TooMany
-from worksward.works import first_place, is_place, need_works, steps_at
+from worksward.works import first_place, is_place, need_works, stepper
 
 
 def need_wish(deeds, thing):
     """The thing itself; refuses what is no WISH for so many deeds."""
     need_deeds(deeds)
-    if not is_tuple(2, thing):
+    if not isinstance(thing, tuple) or len(thing) != 2:
         raise BadWish("form")
     steps, good = thing
-    if not is_tuple_of(1, 6, steps):
-        raise BadWish("steps")
-    if not all([is_tuple(deeds, row) and is_row(len(steps), row) for row in steps]):
+    if not isinstance(steps, tuple) or not 1 <= len(steps) <= 6 or not _are_steps(deeds, steps):
         raise BadWish("steps")
     if not is_lot(len(steps), good) or 0 not in good:
         raise BadWish("good")
     return thing
+
+
+def _are_steps(deeds, steps):
+    many = len(steps)
+    for row in steps:
+        if not isinstance(row, tuple) or len(row) != deeds:
+            return False
+        for state in row:
+            if not isinstance(state, int) or state is True or state is False or not 0 <= state < many:
+                return False
+    return True
+
+
+def need_both(works, wish):
+    """Refuses what is not WORKS, and what is no WISH for their deeds."""
+    need_works(works)
+    need_wish(works[0], wish)
 
 
 def is_good_state(wish, value):
@@ -29,7 +44,9 @@ def is_good_state(wish, value):
 
 def is_good_pair(works, wish, value):
     """Whether any value is a pair of a place, perhaps one that does not come, and a good state."""
-    return is_tuple(2, value) and is_place(works, value[0]) and is_good_state(wish, value[1])
+    if not isinstance(value, tuple) or len(value) != 2:
+        return False
+    return is_good_state(wish, value[1]) and is_place(works, value[0])
 
 
 def first_pair(works):
@@ -37,21 +54,67 @@ def first_pair(works):
     return (first_place(works), 0)
 
 
-def pair_steps(works, wish, pair):
-    """A dict of the deeds that can be done at a pair, ascending, with the pairs behind; None for a bad state."""
-    place, state = pair
-    steps = {}
-    for deed, target in steps_at(works, place).items():
-        after = wish[0][state][deed]
-        steps[deed] = (target, after) if after in wish[1] else None
-    return steps
+def pair_stepper(works, wish):
+    """A function that gives, for a pair of a place and a state, a dict of the deeds that can be done there,
+    ascending, with the pairs behind, or None where the state is not good.
+
+    It keeps what it gave; nothing may be changed in it.
+    """
+    steps_at = stepper(works)
+    rows, good = wish
+    known = {}
+
+    def pair_steps(pair):
+        if pair in known:
+            return known[pair]
+        row = rows[pair[1]]
+        steps = {}
+        for deed, place in steps_at(pair[0]).items():
+            state = row[deed]
+            steps[deed] = (place, state) if state in good else None
+        known[pair] = steps
+        return steps
+    return pair_steps
 
 
 def pair_table(works, wish):
     """The table of steps of the STANDINGS; a RUN that leads out leads out of it."""
-    def steps_of(pair):
-        return pair_steps(works, wish, pair)
-    return spread(first_pair(works), steps_of)
+    return spread(first_pair(works), pair_stepper(works, wish))
+
+
+def pair_behind(works, wish, value):
+    """The pair behind any value as a RUN that is wished, however long; None if it is none."""
+    if not isinstance(value, tuple):
+        return None
+    steps_at = stepper(works)
+    rows, good = wish
+    place = first_place(works)
+    state = 0
+    for deed in value:
+        if not isinstance(deed, int) or deed is True or deed is False:
+            return None
+        place = steps_at(place).get(deed)
+        if place is None:
+            return None
+        state = rows[state][deed]
+        if state not in good:
+            return None
+    return (place, state)
+
+
+def wishes_row(deeds, wish, value):
+    """Whether any value is a row that a WISH wishes, however long."""
+    if not isinstance(value, tuple):
+        return False
+    rows, good = wish
+    state = 0
+    for deed in value:
+        if not isinstance(deed, int) or deed is True or deed is False or not 0 <= deed < deeds:
+            return False
+        state = rows[state][deed]
+        if state not in good:
+            return False
+    return True
 
 
 def wish_table(deeds, wish):
@@ -66,7 +129,7 @@ def wish_of_table(deeds, table):
     least = merged(table, {node: 0 for node in table})
     numbers = {}
     for node, steps in least.items():
-        for target in [node, *list(steps.values())]:
+        for target in [node, *steps.values()]:
             numbers.setdefault(target, len(numbers))
     if len(numbers) > 6:
         raise TooMany(6)
@@ -90,7 +153,7 @@ def state_of(deeds, wish, row):
 def is_wished(deeds, wish, value):
     """Whether any value is a row that is wished, however long."""
     need_wish(deeds, wish)
-    return walk(wish_table(deeds, wish), 0, value) is not None
+    return wishes_row(deeds, wish, value)
 
 
 def least_wish(deeds, wish):
@@ -145,15 +208,13 @@ def wish_renamed(deeds, wish, names):
 
 def standings(works, wish):
     """The ascending tuple of the STANDINGS."""
-    need_works(works)
-    need_wish(works[0], wish)
+    need_both(works, wish)
     return tuple(sorted(pair_table(works, wish)))
 
 
 def first_unwished(works, wish):
     """The first RUN that is not wished, or None."""
-    need_works(works)
-    need_wish(works[0], wish)
+    need_both(works, wish)
     return first_out(pair_table(works, wish))
 
 

@@ -1,8 +1,8 @@
 """The checks of papers on which wishes follow, and which are the same."""
 
-from worksward.basics import is_lot_of, is_row, is_tuple, need_paper, need_proof, walk
-from worksward.wishes import is_good_state, need_wish, wish_table
-from worksward.works import first_place, is_place, is_run, need_works, steps_at
+from worksward.basics import is_lot_of, is_row, is_tuple, need_paper, need_proof
+from worksward.wishes import is_good_state, need_wish, wishes_row
+from worksward.works import first_place, is_place, is_run_of, need_works, stepper
 
 
 def check_follow(works, wish, other, paper):
@@ -25,13 +25,14 @@ def _is_follow_table(works, wish, other, table):
     lot = {triple: True for triple in table}
     if (first_place(works), 0, 0) not in lot:
         return False
-    return all([_goes_along(works, wish, other, triple, lot) for triple in table])
+    steps_at = stepper(works)
+    return all([_goes_along(steps_at(triple[0]), wish, other, triple, lot) for triple in table])
 
 
-def _goes_along(works, wish, other, triple, lot):
+def _goes_along(steps, wish, other, triple, lot):
     """Whether each deed that the other WISH goes on wishing leads to a triple of the lot."""
-    place, one, two = triple
-    for deed, target in steps_at(works, place).items():
+    _, one, two = triple
+    for deed, target in steps.items():
         after = other[0][one][deed]
         if after in other[1] and (target, after, wish[0][two][deed]) not in lot:
             return False
@@ -39,13 +40,9 @@ def _goes_along(works, wish, other, triple, lot):
 
 
 def _is_not_run(works, wish, other, run):
-    if not is_run(works, run):
+    if not is_run_of(works, run):
         return False
-    return _wishes(works[0], other, run) and not _wishes(works[0], wish, run)
-
-
-def _wishes(deeds, wish, row):
-    return walk(wish_table(deeds, wish), 0, row) is not None
+    return wishes_row(works[0], other, run) and not wishes_row(works[0], wish, run)
 
 
 def check_same(deeds, wish, other, paper):
@@ -56,7 +53,7 @@ def check_same(deeds, wish, other, paper):
     if word == "same":
         return need_proof(word, _is_same_table(deeds, wish, other, paper[1]))
     row = paper[1]
-    return need_proof(word, is_row(deeds, row) and _wishes(deeds, wish, row) != _wishes(deeds, other, row))
+    return need_proof(word, is_row(deeds, row) and wishes_row(deeds, wish, row) != wishes_row(deeds, other, row))
 
 
 def _is_same_table(deeds, wish, other, table):
