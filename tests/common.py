@@ -452,3 +452,145 @@ def some_saying(chance, deeds, depth=2):
     if word == "till":
         return (word,) + tuple(some_lot(chance, deeds) for _ in range(3))
     return (word,) + tuple(some_saying(chance, deeds, depth - 1) for _ in WANTS[word])
+
+
+# ---------------------------------------------------------------- [40] to [44] told again
+
+# 4 * 3 places, and 13 by a machine of three and one of four states that shares a deed with it.
+TWELVE = (2, (((0,), (((0, 1),), ((0, 2),), ((0, 3),), ((0, 0),))), ((1,), (((1, 1),), ((1, 2),), ((1, 0),)))), (), ((), ()))
+# 2 * 4 places: just 8; and 3 * 3.
+EIGHT = (2, (((0,), (((0, 1),), ((0, 0),))), ((1,), (((1, 1),), ((1, 2),), ((1, 3),), ((1, 0),)))), (), ((1,), (3,)))
+NINE = (2, (((0,), (((0, 1),), ((0, 2),), ((0, 0),))), ((1,), (((1, 1),), ((1, 2),), ((1, 0),)))), (), ((1,), (2,)))
+
+
+def all_sights(deeds):
+    return [sight for many in range(deeds + 1) for sight in itertools.combinations(range(deeds), many)]
+
+
+def told_look(sight, run):
+    look = ()
+    for deed in run:
+        if deed in sight:
+            look += (deed,)
+    return look
+
+
+def told_good(works, wish, pair, deed):
+    """The pair behind a deed if the RUN with it is wished, otherwise None."""
+    after = told_next(works, wish, pair, deed)
+    return None if after == "out" else after
+
+
+def told_grown(works, wish, sight, lot):
+    """The frozenset of the STANDINGS to which unseen deeds lead."""
+    while True:
+        more = {told_good(works, wish, pair, deed) for pair in lot for deed in range(works[0]) if deed not in sight}
+        more -= {None}
+        if more <= lot:
+            return frozenset(lot)
+        lot = lot | more
+
+
+def told_first_lot(works, wish, sight):
+    """The STANDINGS of all wished RUNS with the LOOK ()."""
+    return told_grown(works, wish, sight, frozenset([(told_start(works), 0)]))
+
+
+def told_lot_behind(works, wish, sight, lot, deed):
+    """Those with one seen deed more in the LOOK; empty of none."""
+    return told_grown(works, wish, sight, frozenset(told_good(works, wish, pair, deed) for pair in lot) - {None})
+
+
+def told_lot_of(works, wish, sight, look):
+    """The STANDINGS of all wished RUNS with a LOOK."""
+    lot = told_first_lot(works, wish, sight)
+    for deed in look:
+        lot = told_lot_behind(works, wish, sight, lot, deed) if deed in sight else frozenset()
+    return lot
+
+
+def told_lots(works, wish, sight):
+    """For each lot of STANDINGS that all wished RUNS with some LOOK have, the first such LOOK."""
+    first = told_first_lot(works, wish, sight)
+    looks = {first: ()}
+    layer = [first]
+    while layer:
+        following = []
+        for lot in layer:
+            for deed in sight:
+                after = told_lot_behind(works, wish, sight, lot, deed)
+                if after and after not in looks:
+                    looks[after] = looks[lot] + (deed,)
+                    following.append(after)
+        layer = following
+    return looks
+
+
+def told_outs(works, wish, pair):
+    """The deeds that lead out from a STANDING."""
+    return [deed for deed in range(works[0]) if told_next(works, wish, pair, deed) == "out"]
+
+
+def told_run(works, wish, value):
+    """The STANDING behind any value as a wished RUN, or None."""
+    if type(value) is not tuple or not all(told_int(deed, 0, works[0] - 1) for deed in value):
+        return None
+    pair = (told_start(works), 0)
+    for deed in value:
+        pair = told_good(works, wish, pair, deed)
+        if pair is None:
+            return None
+    return pair
+
+
+def told_form(sizes, paper):
+    """Whether it has the form of a paper."""
+    return type(paper) is tuple and len(paper) > 0 and type(paper[0]) is str and sizes.get(paper[0]) == len(paper)
+
+
+def told_judged(sizes, paper, holds):
+    """What a check does with a paper: holds() tells whether one that has the form is as told."""
+    if not told_form(sizes, paper):
+        return ("BadPaper", "form")
+    return ("ok", paper[0]) if holds() else ("BadPaper", paper[0])
+
+
+def hold_papers(test, check, told, args, paper, chance, most, many):
+    """Compares the check with what is told of a paper and such that are otherwise; counts the words that are let by."""
+    test.assertEqual(outcome(check, *args, paper), ("ok", paper[0]), (args, paper))
+    test.assertEqual(told(*args, paper), ("ok", paper[0]), (args, paper))
+    for thing in mutations(paper, chance, most):
+        due = told(*args, thing)
+        test.assertEqual(outcome(check, *args, thing), due, (args, thing))
+        if due[0] == "ok":
+            many[due[1]] = many.get(due[1], 0) + 1
+
+
+def no_papers(words):
+    """Things that are no papers with one of these words, each with a number of things behind it."""
+    found = [None, (), 0, True, [], {}, "", Odd(), Equal(), (None,), (True, ()), ((),), ([], ()), (("kept",), ()), (b"kept", ()), ("", ())]
+    for word, many in words.items():
+        full = (word,) + ((),) * many
+        found += [word, list(full), full[:-1], full + ((),), (word.upper(),) + full[1:], (word + " ",) + full[1:],
+                  (full,), (Odd(),) + full[1:], (Equal(),) + full[1:], ("kep",) + full[1:], ("wished",) + full[1:]]
+    return found
+
+
+# ---------------------------------------------------------------- [50] told again
+
+def told_posts(works, thing):
+    """None of POSTS, otherwise the part that is due."""
+    if not told_tuple(thing, 2, 3):
+        return "form"
+    for number, post in enumerate(thing):
+        if not told_tuple(post, 2, 2) or not told_lot(post[0], works[0]) or not told_lot(post[1], works[0]):
+            return number
+        if set(post[1]) & set(works[2]):
+            return number
+    return None
+
+
+def some_posts(chance, works, many=None):
+    can = [deed for deed in range(works[0]) if deed not in works[2]]
+    return tuple((some_lot(chance, works[0]), tuple(deed for deed in can if chance.random() < 0.7))
+                 for _ in range(many or chance.randint(2, 3)))

@@ -9,7 +9,7 @@ import os
 import unittest
 
 from common import (BOUND24, CUBE, JUST24, MORE32, PAIR24, PAIR32, WIDE27, Odd, MANY, RING, SHARED, SIX, TRAP, chance_of, junk, mutations, outcome, same_kind, told_int,
-                    told_is_place, told_lot, told_place, told_row, told_saying, told_steps, told_tuple, told_wish, told_works)
+                    told_is_place, told_lot, told_place, told_posts, told_row, told_saying, told_steps, told_tuple, told_wish, told_works)
 
 OUT = ("OutOfPlace",)
 # Wishes for two deeds, for three and for four.
@@ -19,6 +19,9 @@ THREE = (((0, 0, 1), (1, 1, 1)), (0,))
 FOUR = (((0, 0, 1, 0), (1, 0, 1, 1)), (0, 1))
 # By deed 1, which cannot be stopped, it comes to a place that is lost.
 SHUT = (3, (((0, 1, 2), (((0, 1), (1, 1)), ())),), (1,), ((0,),))
+FORK = (3, (((0, 1, 2), (((0, 1), (1, 2)), ((2, 0),), ((2, 0),))),), (), ((0,),))
+ONE_WAY = (((1, 0, 2), (1, 0, 0), (2, 2, 2)), (0, 1))
+POSTS = (((1,), (2,)), ((0,), (0, 1)))
 SAYING = ("and", ("has", (0,)), ("not", ("most", (0, 1), 2)))
 
 
@@ -60,6 +63,11 @@ def bad_other(given, thing):
     return told_works(thing) or none_or(thing[0] == given["works"][0], OUT)
 
 
+def bad_posts(given, thing):
+    part = told_posts(given["works"], thing)
+    return None if part is None else ("BadPost", part)
+
+
 # For each kind of argument: the error that is due, or None, by the arguments ahead of it and a thing.
 KINDS = {
     "works": lambda given, thing: told_works(thing),
@@ -76,6 +84,9 @@ KINDS = {
     "wish": bad_wish,
     "saying": bad_saying,
     "sight": lambda given, thing: none_or(told_lot(thing, deeds_of(given)), OUT),
+    "look": lambda given, thing: none_or(told_row(thing, deeds_of(given), 0, 400), OUT),
+    "posts": bad_posts,
+    "number": lambda given, thing: none_or(told_int(thing, 0, len(given["posts"]) - 1), OUT),
     "paper": lambda given, thing: ("BadPaper", "form"),
     "any": lambda given, thing: None,
 }
@@ -83,6 +94,9 @@ KINDS = {
 WORKS_WISH = (("works", "works"), ("wish", "wish"))
 WORKS_PLACE = (("works", "works"), ("place", "place"))
 WORKS_OTHER = (("works", "works"), ("other", "other"))
+AIMED = (("works", "works"), ("sight", "sight"))
+SEEN = WORKS_WISH + (("sight", "sight"),)
+POSTED = WORKS_WISH + (("posts", "posts"),)
 DEEDS_BOTH = (("deeds", "deeds"), ("wish", "wish"), ("other", "wish"))
 FOLLOW = WORKS_WISH + (("other", "wish"),)
 
@@ -144,7 +158,30 @@ CALLS = [
     ("exacts", "exact_paper", WORKS_WISH, (RING, TWO_MORE)),
     ("exacts", "is_wider", WORKS_WISH + (("value", "any"),), (RING, TWO_MORE, (0, 0, 1))),
     ("sights", "look_of", (("works", "works"), ("sight", "sight"), ("run", "run")), (RING, (1,), (0, 0, 1))),
-    ("sights", "estimate", WORKS_WISH + (("sight", "sight"), ("look", "row")), (RING, TWO, (1,), (1,))),
+    ("sights", "estimate", SEEN + (("look", "look"),), (RING, TWO, (1,), (1,))),
+    ("sightkeeps", "can_keep_by", SEEN, (FORK, ONE_WAY, (1,))),
+    ("sightkeeps", "sight_paper", SEEN, (FORK, ONE_WAY, (1,))),
+    ("sightkeeps", "least_order", SEEN + (("look", "look"),), (FORK, ONE_WAY, (1,), (1,))),
+    ("sightkeeps", "least_sights", WORKS_WISH, (FORK, ONE_WAY)),
+    ("sightkeeppapers", "check_sight", SEEN + (("paper", "paper"),), (FORK, ONE_WAY, (0,), ("alike", (0,), (0, 2, 1), 2))),
+    ("normals", "has_normal", SEEN, (FORK, ONE_WAY, (1,))),
+    ("normals", "in_normal", SEEN + (("run", "run"),), (FORK, ONE_WAY, (1,), (0, 2))),
+    ("normals", "normal_order", SEEN + (("look", "look"),), (FORK, ONE_WAY, (0, 1, 2), (0, 2))),
+    ("normals", "normal_runs", SEEN + (("length", "length"),), (FORK, ONE_WAY, (0, 1, 2), 5)),
+    ("normals", "normal_paper", SEEN, (FORK, ONE_WAY, (0, 1))),
+    ("normalpapers", "check_normal", SEEN + (("paper", "paper"),),
+     (FORK, ONE_WAY, (), ("normal", (), ((((((0,), 0), ((1,), 1), ((2,), 0)), True), 0, None),)))),
+    ("aims", "can_bring", AIMED, (RING, (0,))),
+    ("aims", "seen_at_most", AIMED, (RING, (0,))),
+    ("aims", "aim_paper", AIMED, (RING, (0,))),
+    ("aimpapers", "check_aim", AIMED + (("paper", "paper"),), (RING, (), ("brought", ((((0,),), 0, ()),)))),
+    ("posts", "need_posts", (("works", "works"), ("thing", "posts")), (FORK, POSTS)),
+    ("posts", "can_post", POSTED, (FORK, ONE_WAY, POSTS)),
+    ("posts", "post_paper", POSTED, (FORK, ONE_WAY, POSTS)),
+    ("posts", "sure_order", POSTED + (("number", "number"), ("look", "look")), (FORK, ONE_WAY, POSTS, 0, (1,))),
+    ("posts", "team_of", POSTED, (FORK, ONE_WAY, POSTS)),
+    ("postpapers", "check_posts", POSTED + (("paper", "paper"),),
+     (FORK, ONE_WAY, (((0,), (2,)), ((0,), (0,))), ("lost", (0, 2, 1, 2), ((0,), None)))),
 ]
 
 
@@ -171,7 +208,7 @@ def wrong_things(call, place):
     args = call[3]
     kind = call[2][place][1]
     things = junk() + [MANY, SIX, CUBE, TWO, THREE, (0,) * 401, ((0, 0, 1),)]
-    if kind in ("works", "other", "wish", "plan", "place", "names", "saying"):
+    if kind in ("works", "other", "wish", "plan", "place", "names", "saying", "posts"):
         things += mutations(args[place], chance_of(place), 60)
     found = []
     for thing in things:
