@@ -594,3 +594,56 @@ def some_posts(chance, works, many=None):
     can = [deed for deed in range(works[0]) if deed not in works[2]]
     return tuple((some_lot(chance, works[0]), tuple(deed for deed in can if chance.random() < 0.7))
                  for _ in range(many or chance.randint(2, 3)))
+
+
+# ---------------------------------------------------------------- [52] told again
+
+def told_is_team(posts, thing):
+    if not told_tuple(thing, len(posts), len(posts)):
+        return False
+    for (sight, held), mind in zip(posts, thing):
+        if not told_tuple(mind, 1, 4):
+            return False
+        for pair in mind:
+            if not told_tuple(pair, 2, 2) or not told_lot(pair[0], 6) or not set(pair[0]) <= set(held):
+                return False
+            if not told_tuple(pair[1], len(sight), len(sight)) or not all(told_int(to, 0, len(mind) - 1) for to in pair[1]):
+                return False
+    return True
+
+
+def some_team(chance, posts, part=0.4):
+    team = []
+    for sight, held in posts:
+        many = chance.randint(1, 4)
+        team.append(tuple((tuple(deed for deed in held if chance.random() < part),
+                           tuple(chance.randrange(many) for _ in sight)) for _ in range(many)))
+    return tuple(team)
+
+
+def told_moved(posts, team, numbers, deed):
+    """The numbers behind a deed, or None if an ORDER forbids it."""
+    if any(deed in mind[number][0] for mind, number in zip(team, numbers)):
+        return None
+    behind = []
+    for (sight, _), mind, number in zip(posts, team, numbers):
+        behind.append(mind[number][1][sight.index(deed)] if deed in sight else number)
+    return tuple(behind)
+
+
+def told_passing(works, posts, team, node, deed):
+    """The place and the numbers behind a deed that passes, or None."""
+    place, numbers = told_do(works, node[0], deed), told_moved(posts, team, node[1], deed)
+    return None if place is None or numbers is None else (place, numbers)
+
+
+def told_node(works, posts, team, value):
+    """The place and the numbers behind any value as a RUN that passes, or None."""
+    if type(value) is not tuple or not all(told_int(deed, 0, works[0] - 1) for deed in value):
+        return None
+    node = (told_start(works), (0,) * len(posts))
+    for deed in value:
+        node = told_passing(works, posts, team, node, deed)
+        if node is None:
+            return None
+    return node

@@ -8,7 +8,7 @@ import itertools
 import os
 import unittest
 
-from common import (BOUND24, CUBE, JUST24, MORE32, PAIR24, PAIR32, WIDE27, Odd, MANY, RING, SHARED, SIX, TRAP, chance_of, junk, mutations, outcome, same_kind, told_int,
+from common import (BOUND24, CUBE, JUST24, MORE32, PAIR24, PAIR32, WIDE27, Odd, MANY, RING, SHARED, SIX, TRAP, chance_of, junk, mutations, outcome, same_kind, told_int, told_is_team,
                     told_is_place, told_lot, told_place, told_posts, told_row, told_saying, told_steps, told_tuple, told_wish, told_works)
 
 OUT = ("OutOfPlace",)
@@ -22,6 +22,8 @@ SHUT = (3, (((0, 1, 2), (((0, 1), (1, 1)), ())),), (1,), ((0,),))
 FORK = (3, (((0, 1, 2), (((0, 1), (1, 2)), ((2, 0),), ((2, 0),))),), (), ((0,),))
 ONE_WAY = (((1, 0, 2), (1, 0, 0), (2, 2, 2)), (0, 1))
 POSTS = (((1,), (2,)), ((0,), (0, 1)))
+TEAM = ((((), (1,)), ((2,), (0,))), (((), (0,)),))
+ONES = (((0, 1, 0), (0, 1, 1)), (0,))
 SAYING = ("and", ("has", (0,)), ("not", ("most", (0, 1), 2)))
 
 
@@ -87,6 +89,10 @@ KINDS = {
     "look": lambda given, thing: none_or(told_row(thing, deeds_of(given), 0, 400), OUT),
     "posts": bad_posts,
     "number": lambda given, thing: none_or(told_int(thing, 0, len(given["posts"]) - 1), OUT),
+    "team": lambda given, thing: none_or(told_is_team(given["posts"], thing), OUT),
+    "faults": lambda given, thing: none_or(told_lot(thing, deeds_of(given)) and thing != (), OUT),
+    "prices": lambda given, thing: none_or(told_tuple(thing, deeds_of(given), deeds_of(given))
+                                           and all(told_int(price, 0, 9) for price in thing), OUT),
     "paper": lambda given, thing: ("BadPaper", "form"),
     "any": lambda given, thing: None,
 }
@@ -94,6 +100,11 @@ KINDS = {
 WORKS_WISH = (("works", "works"), ("wish", "wish"))
 WORKS_PLACE = (("works", "works"), ("place", "place"))
 WORKS_OTHER = (("works", "works"), ("other", "other"))
+TEAMED = (("works", "works"), ("posts", "posts"), ("team", "team"))
+WITHIN = (("works", "works"), ("wish", "wish"), ("posts", "posts"), ("team", "team"))
+FAULTY = (("works", "works"), ("faults", "faults"))
+WATCHED = FAULTY + (("sight", "sight"),)
+PRICED = WORKS_WISH + (("prices", "prices"), ("paper", "paper"))
 AIMED = (("works", "works"), ("sight", "sight"))
 SEEN = WORKS_WISH + (("sight", "sight"),)
 POSTED = WORKS_WISH + (("posts", "posts"),)
@@ -182,6 +193,37 @@ CALLS = [
     ("posts", "team_of", POSTED, (FORK, ONE_WAY, POSTS)),
     ("postpapers", "check_posts", POSTED + (("paper", "paper"),),
      (FORK, ONE_WAY, (((0,), (2,)), ((0,), (0,))), ("lost", (0, 2, 1, 2), ((0,), None)))),
+    ("teams", "need_team", TEAMED[:2] + (("thing", "team"),), (FORK, POSTS, TEAM)),
+    ("teams", "does_pass", TEAMED + (("run", "run"),), (FORK, POSTS, TEAM, (0, 2, 1))),
+    ("teams", "keeps_within", WITHIN, (FORK, ONE_WAY, POSTS, TEAM)),
+    ("teams", "within_paper", WITHIN, (FORK, ONE_WAY, POSTS, TEAM)),
+    ("teams", "does_bring", TEAMED, (FORK, POSTS, TEAM)),
+    ("teams", "bring_paper", TEAMED, (FORK[:3] + (((2,),),), POSTS, TEAM)),
+    ("teampapers", "check_within", WITHIN + (("paper", "paper"),),
+     (FORK, ONE_WAY, POSTS, ((((), (0,)),), (((), (0,)),)), ("out", (1, 2)))),
+    ("teampapers", "check_bring", TEAMED + (("paper", "paper"),),
+     (FORK[:3] + (((2,),),), POSTS, TEAM, ("round", (), (0, 2)))),
+    ("faults", "is_faulty", FAULTY + (("run", "run"),), (FORK, (1,), (0, 2, 1))),
+    ("faults", "least_told", WATCHED, (FORK, (1,), (0, 2))),
+    ("faults", "told_paper", WATCHED, (FORK, (1,), (0, 2))),
+    ("foresight", "doomed_places", FAULTY, (FORK, (2,))),
+    ("foresight", "are_foreseen", WATCHED, (FORK, (2,), (0,))),
+    ("foresight", "foreseen_paper", WATCHED, (FORK, (2,), (0,))),
+    ("faultpapers", "check_told", WATCHED + (("paper", "paper"),),
+     (FORK, (1,), (), ("never", (1,), (2, 1), (), ()))),
+    ("faultpapers", "check_foreseen", WATCHED + (("paper", "paper"),), (FORK, (1,), (), ("late", (), (), (), (0, 2)))),
+    ("secrets", "is_secret", WORKS_WISH + (("run", "run"),), (FORK, ONES, (1,))),
+    ("secrets", "does_hide", SEEN, (FORK, ONES, (1,))),
+    ("secrets", "guess", SEEN + (("look", "look"),), (FORK, ONES, (1,), (1,))),
+    ("secrets", "secret_paper", SEEN, (FORK, ONES, (0, 1))),
+    ("secrets", "greatest_masks", WORKS_WISH, (FORK, ONES)),
+    ("secrets", "mask_paper", WORKS_WISH, (FORK, ONES)),
+    ("secretpapers", "check_secret", SEEN + (("paper", "paper"),), (FORK, ONES, (0, 1), ("given", (1,)))),
+    ("secretpapers", "check_masks", WORKS_WISH + (("paper", "paper"),),
+     (RING, (((0, 0),), (0,)), ("masks", (((0, 1), ((((0,), 0),), (((1,), 0),), (((2,), 0),))),), ()))),
+    ("costpapers", "check_mean", PRICED, (RING, (((0, 0),), (0,)), (1, 9), ("most", (9, 1), (
+        (((0,), 0), (0,), 0), (((1,), 0), (0,), 0), (((2,), 0), (0, 1), 0))))),
+    ("costpapers", "check_total", PRICED, (RING, (((0, 0),), (0,)), (1, 9), ("more", 1, ((((0,), 0), 2), (((1,), 0), 1))))),
 ]
 
 
@@ -208,7 +250,7 @@ def wrong_things(call, place):
     args = call[3]
     kind = call[2][place][1]
     things = junk() + [MANY, SIX, CUBE, TWO, THREE, (0,) * 401, ((0, 0, 1),)]
-    if kind in ("works", "other", "wish", "plan", "place", "names", "saying", "posts"):
+    if kind in ("works", "other", "wish", "plan", "place", "names", "saying", "posts", "team"):
         things += mutations(args[place], chance_of(place), 60)
     found = []
     for thing in things:
@@ -353,7 +395,7 @@ class Form(unittest.TestCase):
                     self.assertLessEqual(node.end_lineno - node.lineno, 39, node.name)
                 self.assertNotIsInstance(node, ast.Import)
                 if isinstance(node, ast.ImportFrom):
-                    self.assertTrue(node.module.startswith("worksward."), path)
+                    self.assertTrue(node.module.startswith("worksward.") or node.module == "math", path)
 
 
 if __name__ == "__main__":

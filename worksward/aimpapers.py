@@ -1,22 +1,24 @@
 """The check of papers on whether some post brings WORKS to a GOAL."""
 
-from worksward.aims import need_small, orders_of
+from worksward.aims import need_few_orders, orders_of
 from worksward.basics import (
     are_ascending, is_below, is_lot, is_lot_of, is_number, is_row, is_tuple, need_paper, need_proof,
 )
 from worksward.sights import need_sight
-from worksward.works import first_place, has_goal, is_place, need_works, stepper
+from worksward.works import first_place, has_goal, is_place, need_places, need_works, stepper
 
 
 def check_aim(works, sight, paper):
     """The word of a paper on whether some post brings WORKS to a GOAL."""
     need_works(works)
     need_sight(works[0], sight)
-    need_small(works)
+    steps_at = stepper(works)
+    need_places(works, steps_at, 8)
+    need_few_orders(works)
     word = need_paper(paper, {"brought": 2, "never": 2})
     if word == "brought":
-        return need_proof(word, _is_brought(works, sight, paper[1]))
-    return need_proof(word, _is_never(works, sight, paper[1]))
+        return need_proof(word, _is_brought(works, sight, steps_at, paper[1]))
+    return need_proof(word, _is_never(works, sight, steps_at, paper[1]))
 
 
 def _are_rows(works, many, rows):
@@ -31,7 +33,7 @@ def _are_rows(works, many, rows):
     return are_ascending([row[0] for row in rows])
 
 
-def _is_brought(works, sight, rows):
+def _is_brought(works, sight, steps_at, rows):
     if not _are_rows(works, 3, rows):
         return False
     for _, rank, order in rows:
@@ -40,7 +42,6 @@ def _is_brought(works, sight, rows):
     ranks = {lot: rank for lot, rank, _ in rows}
     if not has_goal(works, first_place(works)) and (first_place(works),) not in ranks:
         return False
-    steps_at = stepper(works)
     return all([_brings(works, sight, steps_at, row, ranks) for row in rows])
 
 
@@ -107,14 +108,13 @@ def _lots_behind(works, sight, steps_at, width, order):
     return {deed: tuple(sorted(lot)) for deed, lot in behind.items()}
 
 
-def _is_never(works, sight, rows):
+def _is_never(works, sight, steps_at, rows):
     if not _are_rows(works, 2, rows):
         return False
     lots = {lot: True for lot, _ in rows}
     if (first_place(works),) not in lots:
         return False
     orders = orders_of(works)
-    steps_at = stepper(works)
     for lot, fails in rows:
         if not is_tuple(len(orders), fails):
             return False

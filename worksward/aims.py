@@ -1,6 +1,6 @@
 """Whether some post brings WORKS to a GOAL by a SIGHT, within how many seen deeds, and papers on it."""
 
-from worksward.basics import spread
+from worksward.basics import lots_of, spread
 from worksward.errors import TooMany
 from worksward.sights import need_sight, numbers_in
 from worksward.works import first_place, has_goal, need_works, stepper
@@ -47,21 +47,19 @@ def aim_paper(works, sight):
 def need_small(works):
     """The table of steps of places; refuses more than 8 of them, then more than 4 deeds that can be forbidden."""
     table = spread(first_place(works), stepper(works), 8)
+    need_few_orders(works)
+    return table
+
+
+def need_few_orders(works):
+    """Refuses WORKS with more than 4 deeds that are not of FREE."""
     if works[0] - len(works[2]) > 4:
         raise TooMany(4)
-    return table
 
 
 def orders_of(works):
     """All ORDERS, as tuples ascend."""
-    return _orders([deed for deed in range(works[0]) if deed not in works[2]])
-
-
-def _orders(deeds):
-    orders = [()]
-    for deed in deeds:
-        orders = orders + [order + (deed,) for order in orders]
-    return sorted(orders)
+    return lots_of([deed for deed in range(works[0]) if deed not in works[2]])
 
 
 def _lot_of(places, mask):
@@ -93,7 +91,7 @@ def _ranked(works, sight, table):
     field = _field(works, table)
     can_be_done = {deed: True for steps in field if steps is not None for deed, _ in steps}
     deeds = [deed for deed in range(works[0]) if deed in can_be_done and deed not in works[2]]
-    views = [_view(field, sight, order) for order in _orders(deeds)]
+    views = [_view(field, sight, order) for order in lots_of(deeds)]
     lots = {}
     waiting = [1]
     while len(waiting) > 0:

@@ -109,6 +109,14 @@ def need_proof(word, holds):
     return word
 
 
+def lots_of(deeds):
+    """All ascending tuples of some of these deeds, which ascend, perhaps of none; as tuples ascend."""
+    lots = [()]
+    for deed in deeds:
+        lots = lots + [lot + (deed,) for lot in lots]
+    return sorted(lots)
+
+
 def spread(first, steps_at, most=100000):
     """The table of steps of all nodes that come from the first one; steps_at gives those of one node.
 

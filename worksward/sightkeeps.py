@@ -1,6 +1,6 @@
 """Which WISHES a post can keep by a SIGHT, papers on it, LEAST ORDERS and LEAST SIGHTS."""
 
-from worksward.basics import first_rows, need_row
+from worksward.basics import first_rows, lots_of, need_row
 from worksward.errors import Nothing, OutOfPlace, TooMany
 from worksward.sights import coded, need_sight, need_standings, numbers_in, wished_mask
 from worksward.wishes import need_both, pair_table
@@ -58,7 +58,7 @@ def least_sights(works, wish):
     veils = _veils(goes, outs)
     sights = []
     masks = []
-    for sight in _lots_by_size(works[0]):
+    for sight in sorted(lots_of(list(range(works[0]))), key=len):
         mask = sum([1 << deed for deed in sight])
         if all([mask & veil for veil in veils]) and not any([mask & other == other for other in masks]):
             masks.append(mask)
@@ -168,13 +168,3 @@ def _veiled_moves(goes, one, two, veil):
     for deed, then in goes[two].items():
         moves.append((min(one, then), max(one, then), veil | 1 << deed))
     return moves
-
-
-def _lots_by_size(deeds):
-    """All ascending tuples of deeds, those with fewer ahead."""
-    lots = [()]
-    layer = [()]
-    for _ in range(deeds):
-        layer = [lot + (deed,) for lot in layer for deed in range(deeds) if len(lot) == 0 or lot[-1] < deed]
-        lots += layer
-    return lots

@@ -138,6 +138,15 @@ def _number_movers(works):
     return [owners for owners in movers if len(owners) > 0]
 
 
+def need_places(works, steps_at, most):
+    """Refuses WORKS of which more than so many places come; steps_at gives their steps."""
+    bound = 1
+    for _, rows in works[1]:
+        bound *= len(rows)
+    if bound > most:
+        spread(first_place(works), steps_at, most)
+
+
 def need_other(works, other):
     """Refuses what is not WORKS with as many deeds."""
     need_works(other)
