@@ -2,8 +2,8 @@
 
 from worksward.basics import are_ascending, is_lot, is_lot_of, is_number, is_tuple, need_paper, need_proof
 from worksward.normals import estimate_table
-from worksward.sights import coded, look_masks, mask_behind, need_sight, need_standings
-from worksward.wishes import is_good_pair, need_both
+from worksward.sights import coded, look_masks, mask_behind, need_sight, need_standings, number_of
+from worksward.wishes import need_both
 
 
 def check_normal(works, wish, sight, paper):
@@ -16,15 +16,15 @@ def check_normal(works, wish, sight, paper):
     if len(nodes) > 6:
         estimate_table(len(nodes), widths[0], jumps)
     word = need_paper(paper, {"normal": 3})
-    return need_proof(word, _holds(works, wish, nodes, (widths[0], jumps), paper[1:]))
+    return need_proof(word, _holds(works, nodes, (widths[0], jumps), paper[1:]))
 
 
-def _holds(works, wish, nodes, masks, told):
+def _holds(works, nodes, masks, told):
     numbers = {node: number for number, node in enumerate(nodes)}
     good, lost = told
 
     def is_standing(value):
-        return is_good_pair(works, wish, value) and value in numbers
+        return number_of(numbers, value) is not None
 
     def is_estimate(value):
         return is_tuple(2, value) and is_lot_of(is_standing, value[0]) and isinstance(value[1], bool)

@@ -49,13 +49,14 @@ def normal_runs(works, wish, sight, length):
     first = next(iter(table), None)
     if first in lost:
         return 0
+    # A node is a number: that of a SAFE ESTIMATE, and in its last four bits that of a STANDING.
     known = {}
-    counts = {(0, first): 1}
+    counts = {first << 4: 1}
     for _ in range(length):
         longer = {}
         for node, many in counts.items():
             if node not in known:
-                known[node] = _nodes_behind(goes[node[0]], table[node[1]], lost, node[1])
+                known[node] = _nodes_behind(goes[node & 15], table[node >> 4], lost, node)
             for target in known[node]:
                 longer[target] = longer.get(target, 0) + many
         counts = longer
@@ -143,12 +144,12 @@ def _order_at(steps, lost):
     return tuple([deed for deed, target in steps.items() if target in lost])
 
 
-def _nodes_behind(steps, behind, lost, mask):
-    """The pairs of a STANDING and a SAFE ESTIMATE behind one, by its steps and what is behind its ESTIMATE."""
+def _nodes_behind(steps, behind, lost, node):
+    """The nodes behind one, by the steps of its STANDING, and by what is behind its ESTIMATE."""
     nodes = []
     for deed, number in steps.items():
         if deed not in behind:
-            nodes.append((number, mask))
+            nodes.append(node - (node & 15) + number)
         elif behind[deed] not in lost:
-            nodes.append((number, behind[deed]))
+            nodes.append((behind[deed] << 4) + number)
     return nodes

@@ -1,9 +1,9 @@
 """The check of papers on whether POSTS can keep a WISH."""
 
-from worksward.basics import is_lot_of, is_tuple, need_paper, need_proof
-from worksward.posts import need_posts_of
-from worksward.sights import need_standings, seen_of
-from worksward.wishes import first_pair, is_good_pair, need_both, pair_behind
+from worksward.basics import are_ascending, is_tuple, need_paper, need_proof
+from worksward.posts import need_posts_of, row_moves, rows_behind
+from worksward.sights import coded, need_standings, number_of, seen_of
+from worksward.wishes import need_both, pair_behind
 
 
 def check_posts(works, wish, posts, paper):
@@ -13,48 +13,53 @@ def check_posts(works, wish, posts, paper):
     table = need_standings(works, wish, 8)
     word = need_paper(paper, {"kept": 2, "lost": 3})
     if word == "kept":
-        return need_proof(word, _is_kept_table(works, wish, posts, table, paper[1]))
+        return need_proof(word, _is_kept_table(posts, table, paper[1]))
     return need_proof(word, _is_lost(works, wish, posts, table, paper[1:]))
 
 
-def _is_kept_table(works, wish, posts, table, rows):
-    def is_row(value):
-        return is_tuple(1 + len(posts), value) and all([is_standing(part) for part in value])
-
-    def is_standing(value):
-        return is_good_pair(works, wish, value) and value in table
-    if not is_lot_of(is_row, rows):
+def _is_kept_table(posts, table, rows):
+    nodes, goes, outs = coded(table)
+    codes = _codes_of(len(posts), nodes, rows)
+    if codes is None or codes[:1] != [0]:
         return False
-    lot = {row: True for row in rows}
-    if (first_pair(works),) * (1 + len(posts)) not in lot:
+    if not are_ascending(codes):
         return False
-    return all([_goes_on(posts, table, row, lot) and _is_kept(posts, table, row) for row in rows])
-
-
-def _goes_on(posts, table, row, lot):
-    """Whether all rows that one asks for are in the lot."""
-    for deed, target in table[row[0]].items():
-        if target is not None:
-            after = [target]
-            for standing, post in zip(row[1:], posts):
-                after.append(table[standing].get(deed) if deed in post[0] else standing)
-            if None not in after and tuple(after) not in lot:
+    lot = {code: True for code in codes}
+    moves = row_moves(goes, [sight for sight, _ in posts])
+    holders = _holders(posts, outs)
+    for code in codes:
+        for target, _, _ in rows_behind(moves, code):
+            if target not in lot:
                 return False
-    for number, post in enumerate(posts, start=1):
-        for deed, target in table[row[number]].items():
-            if target is not None and deed not in post[0] and row[:number] + (target,) + row[number + 1:] not in lot:
+        for deed in outs[code >> moves[0][0]]:
+            if all([deed in goes[code >> moves[0][at] & 7] for at in holders[deed]]):
                 return False
     return True
 
 
-def _is_kept(posts, table, row):
-    """Whether no deed leads out by which the STANDINGS of all posts that hold it go on."""
-    for deed, target in table[row[0]].items():
-        if target is None:
-            going = [table[standing].get(deed) for standing, post in zip(row[1:], posts) if deed in post[1]]
-            if None not in going:
-                return False
-    return True
+def _holders(posts, outs):
+    """For each deed that leads out from a STANDING the places in a row of the posts that hold it."""
+    deeds = sorted(set([deed for ways in outs for deed in ways]))
+    return {deed: [at for at, post in enumerate(posts, start=1) if deed in post[1]] for deed in deeds}
+
+
+def _codes_of(many, nodes, rows):
+    """The rows as numbers, three bits for each STANDING; None if any value is no tuple of rows for so many posts."""
+    numbers = {node: number for number, node in enumerate(nodes)}
+    if not isinstance(rows, tuple):
+        return None
+    codes = []
+    for row in rows:
+        if not isinstance(row, tuple) or len(row) != 1 + many:
+            return None
+        code = 0
+        for part in row:
+            number = number_of(numbers, part)
+            if number is None:
+                return None
+            code = code << 3 | number
+        codes.append(code)
+    return codes
 
 
 def _is_lost(works, wish, posts, table, told):

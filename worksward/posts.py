@@ -45,8 +45,9 @@ def post_paper(works, wish, posts):
     clash = _clash(goes, outs, posts)
     if clash is not None:
         return ("lost", *clash)
-    rows, _ = _rows(goes, [[] for _ in goes], [sight for sight, _ in posts])
-    return ("kept", tuple([tuple([nodes[number] for number in row]) for row in sorted(rows)]))
+    moves = row_moves(goes, [sight for sight, _ in posts])
+    rows, _ = _rows(goes, [()] * len(goes), moves)
+    return ("kept", tuple([tuple([nodes[row >> shift & 7] for shift in moves[0]]) for row in sorted(rows)]))
 
 
 def sure_order(works, wish, posts, number, look):
@@ -88,7 +89,7 @@ def _order_at(goes, outs, held, mask):
 
 def _mind(goes, outs, sight, held):
     """The mind of a post by its SURE ORDERS."""
-    widths, jumps = look_masks(goes, [[] for _ in goes], sight)
+    widths, jumps = look_masks(goes, [()] * len(goes), sight)
 
     def steps_at(mask):
         steps = {}
@@ -109,14 +110,15 @@ def _clash(goes, outs, posts):
     """RUN and OTHERS of a paper with "lost", or None if POSTS can keep the WISH."""
     for numbers, lost in _lost_by(outs, posts).items():
         # What the other posts see does not matter for the deeds that these ones hold.
-        rows, found = _rows(goes, lost, [posts[number][0] for number in numbers])
+        sights = [posts[number][0] for number in numbers]
+        moves = row_moves(goes, sights)
+        rows, found = _rows(goes, lost, moves)
         if found is not None:
-            row, deed = found
-            runs = _runs_to(rows, row, [posts[number][0] for number in numbers])
+            runs = _runs_to(rows, found[0], sights)
             others = [None] * len(posts)
             for number, run in zip(numbers, runs[1:]):
                 others[number] = run
-            return (runs[0] + (deed,), tuple(others))
+            return (runs[0] + found[1:], tuple(others))
     return None
 
 
@@ -132,50 +134,80 @@ def _lost_by(outs, posts):
     return lots
 
 
-def _rows(goes, lost, sights):
-    """The rows of STANDINGS of a RUN and of one more for each SIGHT that looks alike; each with how it comes.
+def row_moves(goes, sights):
+    """How rows of STANDINGS go on: of a RUN, first, and of one more for each SIGHT that looks alike.
 
-    That is the row ahead, a deed, and 0 where all do it that see it, otherwise the place of the one that does. Beside
-    them: the first row met from whose first STANDING a deed leads out, by which all others go on, and this deed.
+    A row is written as one number, three bits for each STANDING, so that rows ascend as such numbers do. These are the
+    places of the bits; for each first STANDING a list of triples of a deed, what it adds to the number, and a list of
+    pairs, for each one that sees it, of the place of its bits and what it adds for each STANDING, or None; and for each
+    other place a list with a list for each STANDING of pairs of a deed that is not seen and what it adds.
     """
-    first = (0,) * (1 + len(sights))
-    rows = {first: None}
-    layer = [first]
+    shifts = [3 * at for at in range(len(sights), -1, -1)]
+    joint = []
+    for number, steps in enumerate(goes):
+        ways = []
+        for deed, target in steps.items():
+            seers = [(shift, _changes(goes, deed, shift)) for shift, sight in zip(shifts[1:], sights) if deed in sight]
+            ways.append((deed, target - number << shifts[0], seers))
+        joint.append(ways)
+    alone = []
+    for shift, sight in zip(shifts[1:], sights):
+        ways = []
+        for number, steps in enumerate(goes):
+            ways.append([(deed, target - number << shift) for deed, target in steps.items() if deed not in sight])
+        alone.append(ways)
+    return shifts, joint, alone
+
+
+def _changes(goes, deed, shift):
+    return [steps[deed] - number << shift if deed in steps else None for number, steps in enumerate(goes)]
+
+
+def rows_behind(moves, row):
+    """The rows behind one, each with a deed, and 0 where all do it that see it, else the place of the one that does."""
+    shifts, joint, alone = moves
+    found = []
+    for deed, change, seers in joint[row >> shifts[0]]:
+        target = row + change
+        for shift, changes in seers:
+            more = changes[row >> shift & 7]
+            if more is None:
+                break
+            target += more
+        else:
+            found.append((target, deed, 0))
+    for at, ways in enumerate(alone, start=1):
+        for deed, change in ways[row >> shifts[at] & 7]:
+            found.append((row + change, deed, at))
+    return found
+
+
+def _rows(goes, lost, moves):
+    """The rows that come, as numbers, each with the one ahead and how it comes from it.
+
+    Beside them, if there is such a row, the one met from whose first STANDING a lost deed leads out by which all others
+    go on, and this deed.
+    """
+    shifts = moves[0]
+    rows = {0: None}
+    layer = [0]
     while len(layer) > 0:
         following = []
         for row in layer:
-            for deed in lost[row[0]]:
-                if all([deed in goes[number] for number in row[1:]]):
+            for deed in lost[row >> shifts[0]]:
+                if all([deed in goes[row >> shift & 7] for shift in shifts[1:]]):
                     return rows, (row, deed)
-            for target, way in _rows_behind(goes, sights, row):
+            for target, deed, at in rows_behind(moves, row):
                 if target not in rows:
-                    rows[target] = (row, *way)
+                    rows[target] = (row, deed, at)
                     following.append(target)
         layer = following
     return rows, None
 
 
-def _rows_behind(goes, sights, row):
-    found = []
-    for deed, target in goes[row[0]].items():
-        after = [target]
-        for number, sight in zip(row[1:], sights):
-            to = goes[number].get(deed) if deed in sight else number
-            if to is None:
-                break
-            after.append(to)
-        else:
-            found.append((tuple(after), (deed, 0)))
-    for at, sight in enumerate(sights, start=1):
-        for deed, target in goes[row[at]].items():
-            if deed not in sight:
-                found.append((row[:at] + (target,) + row[at + 1:], (deed, at)))
-    return found
-
-
 def _runs_to(rows, row, sights):
     """The RUNS that lead to a row of STANDINGS."""
-    runs = [() for _ in row]
+    runs = [()] + [() for _ in sights]
     while rows[row] is not None:
         row, deed, at = rows[row]
         if at > 0:

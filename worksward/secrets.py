@@ -95,7 +95,7 @@ def _open_mask(wish, nodes):
 
 def _table_of(nodes, goes, sight):
     """The GUESSES that come, as a paper has them."""
-    widths, jumps = look_masks(goes, [[] for _ in goes], sight)
+    widths, jumps = look_masks(goes, [()] * len(goes), sight)
 
     def steps_at(mask):
         behind = {deed: mask_behind(row, mask) for deed, row in jumps.items()}
@@ -106,7 +106,7 @@ def _table_of(nodes, goes, sight):
 
 def _hides(goes, good, sight):
     """Whether each GUESS that comes has a pair of those that are good."""
-    widths, jumps = look_masks(goes, [[] for _ in goes], sight)
+    widths, jumps = look_masks(goes, [()] * len(goes), sight)
     known = {0: True, widths[0]: True}
     waiting = [widths[0]]
     while len(waiting) > 0:
@@ -123,7 +123,7 @@ def _hides(goes, good, sight):
 
 def _given(goes, good, sight):
     """A secret RUN that looks alike with secret ones alone, if there is one, otherwise None."""
-    widths, jumps = look_masks(goes, [[] for _ in goes], sight)
+    widths, jumps = look_masks(goes, [()] * len(goes), sight)
 
     def steps_at(node):
         number, mask = node

@@ -1,8 +1,8 @@
 """The check of papers on whether a WISH can be kept by a SIGHT."""
 
-from worksward.basics import is_below, is_lot_of, is_tuple, need_paper, need_proof
-from worksward.sights import need_sight, need_standings, seen_of
-from worksward.wishes import first_pair, is_good_pair, need_both, pair_behind
+from worksward.basics import are_ascending, is_below, need_paper, need_proof
+from worksward.sights import coded, need_sight, need_standings, number_of, seen_of
+from worksward.wishes import need_both, pair_behind
 
 
 def check_sight(works, wish, sight, paper):
@@ -12,7 +12,7 @@ def check_sight(works, wish, sight, paper):
     table = need_standings(works, wish, 12)
     word = need_paper(paper, {"kept": 2, "free": 2, "alike": 4})
     if word == "kept":
-        return need_proof(word, _is_kept_table(works, wish, sight, table, paper[1]))
+        return need_proof(word, _is_kept_table(works, sight, table, paper[1]))
     if word == "free":
         return need_proof(word, leads_freely_out(works, wish, table, paper[1]))
     return need_proof(word, _are_alike(works, wish, sight, table, paper[1:]))
@@ -37,38 +37,48 @@ def _are_alike(works, wish, sight, table, told):
     return seen_of(sight, one) == seen_of(sight, other)
 
 
-def _is_kept_table(works, wish, sight, table, couples):
-    def is_couple(value):
-        return is_tuple(2, value) and is_standing(value[0]) and is_standing(value[1])
-
-    def is_standing(value):
-        return is_good_pair(works, wish, value) and value in table
-    if not is_lot_of(is_couple, couples):
+def _is_kept_table(works, sight, table, couples):
+    nodes, goes, outs = coded(table)
+    # All STANDINGS come in couples of themselves, so none may have a deed of FREE that leads out.
+    if any([deed in works[2] for ways in outs for deed in ways]):
         return False
-    lot = {couple: True for couple in couples}
-    if (first_pair(works), first_pair(works)) not in lot:
+    codes = _codes_of(nodes, couples)
+    if codes is None or codes[:1] != [0] or not are_ascending(codes):
         return False
-    for one, two in couples:
-        if not _goes_on(works, sight, table[one], table[two], (one, two), lot):
-            return False
-    return True
+    lot = {code: True for code in codes}
+    return all([_goes_on(goes, outs, sight, code, lot) for code in codes])
 
 
-def _goes_on(works, sight, steps, others, couple, lot):
-    """Whether all that a couple of STANDINGS asks for is in the lot, and it has no clash, and nothing freely out."""
-    for deed, target in steps.items():
-        if target is None:
-            if deed in works[2]:
-                return False
-        elif deed not in sight:
-            if (target, couple[1]) not in lot:
-                return False
-        elif others.get(deed) is not None and (target, others[deed]) not in lot:
+def _codes_of(nodes, couples):
+    """The couples as numbers, four bits for each STANDING; None if any value is no tuple of couples of such."""
+    numbers = {node: number for number, node in enumerate(nodes)}
+    if not isinstance(couples, tuple):
+        return None
+    codes = []
+    for couple in couples:
+        if not isinstance(couple, tuple) or len(couple) != 2:
+            return None
+        one = number_of(numbers, couple[0])
+        two = number_of(numbers, couple[1])
+        if one is None or two is None:
+            return None
+        codes.append(one << 4 | two)
+    return codes
+
+
+def _goes_on(goes, outs, sight, code, lot):
+    """Whether all couples that one asks for are in the lot, and no deed goes on from the first and leads out."""
+    one = code >> 4
+    two = code & 15
+    for deed, target in goes[one].items():
+        if deed in outs[two]:
             return False
-    for deed, target in others.items():
-        if target is None:
-            if deed in works[2] or steps.get(deed) is not None:
+        if deed not in sight:
+            if target << 4 | two not in lot:
                 return False
-        elif deed not in sight and (couple[0], target) not in lot:
+        elif deed in goes[two] and target << 4 | goes[two][deed] not in lot:
+            return False
+    for deed, target in goes[two].items():
+        if deed not in sight and one << 4 | target not in lot:
             return False
     return True

@@ -96,6 +96,17 @@ def coded(table):
     return nodes, goes, outs
 
 
+def number_of(numbers, value):
+    """The number of any value that is one of the STANDINGS in a dict of numbers, otherwise None."""
+    if not isinstance(value, tuple) or len(value) != 2 or not isinstance(value[0], tuple):
+        return None
+    for state in (value[1], *value[0]):
+        # True is 1 as a key, too, and what is no integer may be none.
+        if not isinstance(state, int) or state is True or state is False:
+            return None
+    return numbers.get(value)
+
+
 def look_masks(goes, outs, sight):
     """What is known behind LOOKS, as masks: a bit for each STANDING, by its number, and one more for what is out.
 
@@ -145,15 +156,25 @@ def mask_behind(row, mask):
 
 def wished_mask(goes, sight, look):
     """The STANDINGS of the wished RUNS with a LOOK, as a mask; 0 if there are none."""
-    widths, jumps = look_masks(goes, [[] for _ in goes], sight)
+    outs = [()] * len(goes)
+    widths = {}
     known = {}
-    mask = widths[0]
+    mask = _width(goes, outs, sight, 0)
     for deed in look:
-        if deed not in jumps:
+        if deed not in sight:
             return 0
         if (mask, deed) not in known:
-            known[(mask, deed)] = mask_behind(jumps[deed], mask)
+            behind = 0
+            for number in numbers_in(mask):
+                target = goes[number].get(deed)
+                if target is not None:
+                    if target not in widths:
+                        widths[target] = _width(goes, outs, sight, target)
+                    behind = behind | widths[target]
+            known[(mask, deed)] = behind
         mask = known[(mask, deed)]
+        if mask == 0:
+            return 0
     return mask
 
 
