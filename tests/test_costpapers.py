@@ -518,6 +518,18 @@ class Totals(unittest.TestCase):
         rows = ((FIRST, (0,), 2, 1), (OTHER, (), 0, 0), (((2,), 0), (0,), 5, 3))
         self.assertEqual(check_total(works, (((0,),), (0,)), (2,), ("total", 2, rows)), "total")
         self.assertEqual(check_total(works, (((0,),), (0,)), (2,), ("more", 1, ((FIRST, 2), (((2,), 0), 2)))), "more")
+        for low in (1, 2, 0, -1, True, 3, None, 1.0, "1", (1,)):
+            paper = ("more", 1, ((FIRST, 2), (((2,), 0), low)))
+            due = ("ok", "more") if type(low) is int and 1 <= low <= 2 else ("BadPaper", "more")
+            self.assertEqual(outcome(check_total, works, (((0,),), (0,)), (2,), paper), due, low)
+
+    def test_deeds_that_cannot_be_done(self):
+        for deeds in ((0, 1), (0,), (2,), (1, 2)):
+            paper = ("most", (3, 1), ((FIRST, (1,), 0), (OTHER, deeds, 0)))
+            self.assertEqual(outcome(check_mean, TWO_WAYS, ALL2, (3, 1), paper), ("BadPaper", "most"))
+            none = TWO_WAYS[:3] + (((),),)
+            paper = ("total", 9, ((FIRST, (1,), 9, 9), (OTHER, deeds, 5, 5)))
+            self.assertEqual(outcome(check_total, none, ALL2, (3, 1), paper), ("BadPaper", "total"))
 
     def test_by_chance(self):
         found = {}

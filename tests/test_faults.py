@@ -266,6 +266,24 @@ class Told(unittest.TestCase):
             seen[due] = seen.get(due, 0) + 1
         self.assertTrue(min(seen.get(due, 0) for due in (0, 1, 2, 3, None)) > 0, seen)
 
+    def test_hard_ones(self):
+        # In these it matters that the second RUN does seen deeds with the first one alone, and which couple is the last.
+        for works, faults, sight, due in (
+                ((4, (((0, 2, 3), (((2, 1), (3, 1)), ((0, 2), (3, 3)), ((0, 3), (3, 3)), ())),), (1,), ((1,),)), (1, 3), (0, 1, 2), 2),
+                ((4, (((0, 1, 2, 3), (((0, 2), (1, 1), (3, 1)), ((2, 0),), ((0, 2), (2, 0), (3, 2)))),), (0, 1), ((0,),)), (1,), (0, 2, 3), 1),
+                ((4, (((0, 1, 2, 3), (((1, 2), (2, 2)), ((2, 1),), ((0, 2), (1, 1), (3, 0)))),
+                      ((0, 1, 3), (((0, 0), (1, 0)),))), (3,), ((0, 1, 2), ())), (1,), (0, 2, 3), 3),
+                ((4, (((0, 3), (((0, 1), (3, 2)), ((3, 0),), ())),), (), ((0, 1),)), (2, 3), (0, 1), 2),
+                ((3, (((0, 1, 2), (((0, 1), (1, 0), (2, 3)), (), ((0, 3), (1, 0), (2, 1)), ((0, 1), (1, 2)))),
+                      ((1, 2), (((1, 1), (2, 0)), ((2, 1),)))), (0, 1, 2), ((0,), (0, 1))), (0, 1), (), 3),
+                ((4, (((1, 2), (((1, 2), (2, 3)), ((1, 0), (2, 0)), ((2, 2),), ((1, 0), (2, 2)))),
+                      ((2,), (((2, 2),), ((2, 1),), ()))), (3,), ((0,), (0,))), (1, 2, 3), (0, 3), 3)):
+            self.assertEqual(told_least(works, faults, sight), due)
+            self.assertEqual(least_told(works, faults, sight), due)
+            paper = told_paper(works, faults, sight)
+            self.assertEqual(check_told(works, faults, sight, paper), "told")
+            self.assertEqual(told_check_told(works, faults, sight, paper), ("ok", "told"))
+
     def test_by_the_words(self):
         # Of short RUNS: those with as many deeds behind the first fault look alike with faulty ones alone.
         for works, faults, sight in cases(201, 60, 6):
@@ -389,6 +407,23 @@ class Papers(unittest.TestCase):
                               (((0,), ()), False), (((1, 0), (0,) * 2000), True)):
             due = ("ok", "told") if is_so else ("BadPaper", "told")
             self.assertEqual(outcome(check_told, SLIP, (1,), (2,), paper[:3] + (couple,)), due, couple)
+
+    def test_rows_that_need_not_come(self):
+        # At the second place, which does not come, nothing can be done.
+        works = (2, (((0, 1), (((0, 0),), ())),), (), ((),))
+        first = (0, (0,), (0,), 0)
+        for row, is_so in (((0, (1,), (1,), 0), True), ((1, (1,), (1,), 0), True), ((1, (1,), (0,), 7), True), ((0, (0,), (1,), 0), True),
+                           ((2, (1,), (1,), 0), False), ((True, (1,), (1,), 0), False), ((1.0, (1,), (1,), 0), False),
+                           ((1, (0,), (0,), 0), False), ((0, (0,), (0,), 1), False), ((0, (2,), (0,), 1), False), ((0, (0,), (2,), 1), False),
+                           ((1, (1,), (1,), -1), False), ((1, (1,), (1,)), False), ((1, (1,), (1,), 0, 0), False)):
+            due = ("ok", "told") if is_so else ("BadPaper", "told")
+            self.assertEqual(outcome(check_told, works, (1,), (), ("told", 0, (first, row), ())), due, row)
+        self.assertEqual(outcome(check_told, works, (1,), (), ("told", 0, ((-1, (1,), (1,), 0), first), ())), ("BadPaper", "told"))
+        self.assertEqual(outcome(check_told, works, (1,), (), ("told", -1, (first,), ())), ("BadPaper", "told"))
+        # A still place is not doomed.
+        couples = (((0,), (0,)),)
+        self.assertEqual(check_foreseen(works, (1,), (), ("foreseen", (), couples)), "foreseen")
+        self.assertEqual(outcome(check_foreseen, works, (1,), (), ("foreseen", (((1,), 0),), couples)), ("BadPaper", "foreseen"))
 
     def test_the_couple_of_0(self):
         paper = told_paper(SLIP, (1,), (1,))

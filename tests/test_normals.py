@@ -236,7 +236,7 @@ class Normals(unittest.TestCase):
             self.assertEqual(outcome(normal_runs, RING, APART, (), length), ("OutOfPlace",))
 
     def test_looks(self):
-        for look in ((1,), (0, 1), (0, 0), (2,)):
+        for look in ((1,), (0, 1), (0, 0), (2,), (1, 0), (1, 1, 0), (0, 1, 0)):
             self.assertEqual(outcome(normal_order, RING, APART, (0,), look), ("OutOfPlace",))
         self.assertEqual(outcome(normal_order, RING, APART, (1,), ()), ("OutOfPlace",))
         self.assertEqual(normal_order(LOOSE, ALL2, (0,), (0,) * 400), ())
@@ -325,6 +325,7 @@ class Papers(unittest.TestCase):
                              told_check(RING, ALL2, (0,), ("normal", tuple(sorted(good + ((extra, ()),))), ())))
         self.assertEqual(check_normal(RING, ALL2, (0,), ("normal", ((((), False), ()),) + good, ())), "normal")
         self.assertEqual(check_normal(RING, ALL2, (0,), ("normal", good, ((((), True), 7, None),))), "normal")
+        self.assertEqual(outcome(check_normal, RING, ALL2, (0,), ("normal", ((((), True), ()),) + good, ())), ("BadPaper", "normal"))
         for bad in (good[1:], good[:2], good[::-1], good + good[-1:], ((((one,), True), ()),) + good[1:],
                     ((((one,), 0), ()),) + good[1:], ((((one,), False), (0,)),) + good[1:],
                     ((((one,), False), (1,)),) + good[1:], list(good), None, good + ((((((3,), 0),), False), ()),)):

@@ -253,6 +253,10 @@ class Bounds(unittest.TestCase):
             found[many] += 1
             got = outcome(can_keep_by, works, wish, (0,))
             self.assertEqual(got, ("ok", told_can(works, wish, (0,))) if many == 12 else ("TooMany", 12))
+            got = outcome(least_order, works, wish, (0,), ())
+            due = ("ok", "OutOfPlace", "Nothing") if many == 12 else ("TooMany",)
+            self.assertIn(got[0], due)
+            self.assertEqual(outcome(least_sights, works, wish)[0], "ok" if many == 12 else "TooMany")
             paper = sight_paper(works, wish, (1,)) if many == 12 else None
             self.assertEqual(outcome(check_sight, works, wish, (1,), paper), ("ok", paper[0]) if paper else ("TooMany", 12))
 
@@ -284,6 +288,37 @@ class Papers(unittest.TestCase):
             table = tuple(sorted(paper[1] + (extra,)))
             self.assertEqual(outcome(check_sight, LOOSE, APART, (0, 1), ("kept", table)), ("BadPaper", "kept"), extra)
             self.assertEqual(told_check(LOOSE, APART, (0, 1), ("kept", table)), ("BadPaper", "kept"))
+
+    def test_tables_that_have_all_pairs_but_a_clash(self):
+        many = {"alike": 0, "free": 0}
+        for works, wish, sight in cases(82, 600, 8):
+            paper = sight_paper(works, wish, sight)
+            if paper[0] != "kept":
+                many[paper[0]] += 1
+                known = {((told_start(works), 0),) * 2}
+                waiting = list(known)
+                while waiting:
+                    one, two = waiting.pop()
+                    for deed in range(works[0]):
+                        after, then = told_good(works, wish, one, deed), told_good(works, wish, two, deed)
+                        found = [(after, then)] if deed in sight else [(after, two), (one, then)]
+                        for pair in found:
+                            if None not in pair and pair not in known:
+                                known.add(pair)
+                                waiting.append(pair)
+                every = tuple(sorted(itertools.product(told_standings(works, wish), repeat=2)))
+                for table in (tuple(sorted(known)), every):
+                    got = outcome(check_sight, works, wish, sight, ("kept", table))
+                    self.assertEqual(got, ("BadPaper", "kept"))
+        self.assertTrue(min(many.values()) > 5, many)
+
+    def test_free(self):
+        for run, is_so in (((0, 0, 1, 1), True), ((0, 0, 1, 0) * 500 + (0, 0, 1, 1), True), ((0, 1), False), ((1,), False), ((), False),
+                           ((0, 0, 1), False), ((0, 0, 1, 1, 1), False), ([0, 0, 1, 1], False), ((0, 0, 1, True), False), (None, False),
+                           ((0, 0, 1, 1.0), False), ((0, 0, True, 1), False), ((0, 0, 1, 5), False), ((0, 0, 1, None), False), ((0, 0, 1, []), False)):
+            due = ("ok", "free") if is_so else ("BadPaper", "free")
+            self.assertEqual(outcome(check_sight, RING, APART, (0,), ("free", run)), due, run)
+        self.assertEqual(outcome(check_sight, LOOSE, APART, (0,), ("free", (0, 0, 1, 1))), ("BadPaper", "free"))
 
     def test_pairs_may_be_more_than_needed(self):
         works, wish = TWELVE, ALL2
