@@ -395,8 +395,8 @@ def some_lot(chance, many, part=0.5):
     return tuple(number for number in range(many) if chance.random() < part)
 
 
-def some_machine(chance, deeds, most=4, part=0.7):
-    has = some_lot(chance, deeds, 0.7)
+def some_machine(chance, deeds, most=4, part=0.7, has=0.7):
+    has = some_lot(chance, deeds, has)
     many = chance.randint(1, most)
     rows = tuple(tuple((deed, chance.randrange(many)) for deed in has if chance.random() < part) for _ in range(many))
     return (has, rows)

@@ -144,7 +144,8 @@ class WiderPart(unittest.TestCase):
         self.assertIs(is_wider(RING, APART, (0, 0, 1, 0) * 3000), True)
         self.assertIs(is_wider(RING, APART, (0, 0, 1, 0) * 3000 + (0, 0) + (1,) * 5000), True)
         self.assertIs(is_wider(RING, APART, (0, 0, 1, 0) * 3000 + (0, 0) + (1,) * 5000 + (0,)), False)
-        for value in (None, 0, [], [0], "0", (True,), (False,), (0.0,), (1,), (0, 1), (2,), ((0,),), ({},), {}, (0, None)):
+        for value in (None, 0, [], [0], "0", (True,), (False,), (0.0,), (1,), (0, 1), (2,), ((0,),), ({},), {}, (0, None),
+                      (False,), (0, False), (0, 0, True), (0, 0, 1.0), (0, 0, 1, True), (0, 0, 1, 1, True)):
             self.assertIs(is_wider(RING, APART, value), False)
 
 

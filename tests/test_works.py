@@ -118,9 +118,9 @@ class NeedWorks(unittest.TestCase):
     def test_how_many_places_by_chance(self):
         chance = chance_of(6)
         counts = {}
-        while min([counts.get(many, 0) for many in (23, 24, 25, 26)]) < 4:
+        while min([counts.get(many, 0) for many in (23, 24, 25, 26)]) < 12:
             deeds = chance.randint(1, 6)
-            parts = tuple(some_machine(chance, deeds, 4, 0.8) for _ in range(3))
+            parts = tuple(some_machine(chance, deeds, 4, 0.8, has=chance.choice((0.3, 0.5, 0.7))) for _ in range(3))
             works = (deeds, parts, (), ((), (), ()))
             many = len(told_places(works))
             counts[many] = counts.get(many, 0) + 1
