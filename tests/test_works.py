@@ -255,6 +255,25 @@ class Runs(unittest.TestCase):
         self.assertIs(is_run(RING, long * 50 + (1,)), False)
         self.assertIs(is_run(RING, (1,) + long * 50), False)
         self.assertIs(is_run(STILL, (0,) * 401), False)
+        for odd in (True, False, 0.0, 1.0, None, "0", (0,), [], 2, -1, 10 ** 999):
+            for value in (long * 50 + (odd,), (odd,) + long * 50, long * 25 + (odd,) + long * 25):
+                self.assertIs(is_run(RING, value), False, odd)
+
+    def test_long_runs_by_chance(self):
+        chance = chance_of(7)
+        for _ in range(60):
+            works = some_works(chance, chance.randint(1, 6))
+            run = ()
+            place = (0,) * len(works[1])
+            for _ in range(1010):
+                can = doable(works, place)
+                if can:
+                    run += (chance.choice(can),)
+                    place = told_do(works, place, run[-1])
+            self.assertIs(is_run(works, run), True)
+            at = chance.randrange(len(run) + 1)
+            other = run[:at] + (chance.randrange(works[0]),) + run[at + 1:]
+            self.assertIs(is_run(works, other), told_place(works, other) is not None)
 
     def test_any_value(self):
         for value in (None, 0, [], [0, 0], "00", (True,), (False,), (0.0,), ("0",), ((0,),), ([],), (None,), {}, {0: 0},

@@ -171,6 +171,20 @@ def walk(steps_at, first, value):
     return node
 
 
+def walk_far(table, row):
+    """As walk(), of a tuple that is long, by a table of steps that has few nodes: by their numbers that takes less."""
+    numbers = {node: number for number, node in enumerate(table)}
+    ways = []
+    for steps in table.values():
+        ways.append({deed: numbers[target] for deed, target in steps.items() if target is not None})
+    at = 0
+    for deed in row:
+        if at is None or not isinstance(deed, int) or deed is True or deed is False:
+            return None
+        at = ways[at].get(deed)
+    return None if at is None else list(table)[at]
+
+
 def leading(table, ends):
     """A dict of the nodes of a table from which some row, perhaps (), leads to one of the ends."""
     sources = {node: [] for node in table}
@@ -224,7 +238,10 @@ def numbered(signs):
 
 
 def kinds_of(table, marks):
-    """For each node its kind: two have the same one if by all rows they go on alike, and with the same marks."""
+    """For each node its kind: two have the same one if by all rows they go on alike, and with the same marks.
+
+    Beside them how many kinds there are.
+    """
     kinds, many = numbered([(marks[node], *steps) for node, steps in table.items()])
     rows = targets_in(table)
     before = 0
@@ -233,12 +250,14 @@ def kinds_of(table, marks):
         kinds.append(-1)
         signs = [(kind, *[kinds[target] for target in row]) for kind, row in zip(kinds, rows)]
         kinds, many = numbered(signs)
-    return {node: kind for node, kind in zip(table, kinds)}
+    return {node: kind for node, kind in zip(table, kinds)}, many
 
 
 def merged(table, marks):
     """The table in which the first node of each kind stands for all of its kind."""
-    kinds = kinds_of(table, marks)
+    kinds, many = kinds_of(table, marks)
+    if many == len(table):
+        return table
     firsts = {}
     for node, kind in kinds.items():
         if kind not in firsts:

@@ -1,8 +1,6 @@
 """The checks of papers on what a SIGHT hides, and on the GREATEST MASKS."""
 
-from worksward.basics import (
-    is_below, is_list_by, is_lot, is_lot_of, is_tuple, lots_of, need_paper, need_proof, walk,
-)
+from worksward.basics import is_below, is_list_by, is_lot, is_lot_of, is_tuple, need_paper, need_proof, walk
 from worksward.secrets import guess_stepper, need_guessed
 from worksward.sights import need_sight, seen_of
 from worksward.wishes import first_pair, need_both
@@ -33,17 +31,19 @@ def _are_masks(works, wish, table, hide, give):
         return is_lot(works[0], value)
     if not is_list_by(is_sight, hide) or not is_list_by(is_sight, give):
         return False
-    for lot in lots_of(list(range(works[0]))):
-        is_hidden = any([_is_within(lot, sight) for sight, _ in hide])
-        if not is_hidden and not any([_is_within(sight, lot) for sight, _ in give]):
+    hiding = [_mask_of(sight) for sight, _ in hide]
+    giving = [_mask_of(sight) for sight, _ in give]
+    for lot in range(1 << works[0]):
+        if not any([lot & mask == lot for mask in hiding]) and not any([lot & mask == mask for mask in giving]):
             return False
     if not all([_is_given(works, wish, sight, table, run) for sight, run in give]):
         return False
     return all([_is_hidden(works, wish, sight, guesses) for sight, guesses in hide])
 
 
-def _is_within(sight, other):
-    return all([deed in other for deed in sight])
+def _mask_of(sight):
+    """A SIGHT as a number with a bit for each deed."""
+    return sum([1 << deed for deed in sight])
 
 
 def _is_hidden(works, wish, sight, guesses):

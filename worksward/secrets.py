@@ -106,6 +106,8 @@ def _table_of(nodes, goes, sight):
 
 def _hides(goes, good, sight):
     """Whether each GUESS that comes has a pair of those that are good."""
+    if good == (1 << len(goes)) - 1:
+        return True
     widths, jumps = look_masks(goes, [()] * len(goes), sight)
     known = {0: True, widths[0]: True}
     waiting = [widths[0]]

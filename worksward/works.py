@@ -1,6 +1,6 @@
 """WORKS: machines put together, their places, and the deeds that can be done there."""
 
-from worksward.basics import is_below, is_lot, is_number, spread, walk
+from worksward.basics import is_below, is_lot, is_number, spread, walk, walk_far
 from worksward.errors import BadWorks, OutOfPlace, TooMany
 
 
@@ -182,6 +182,8 @@ def need_run(works, run):
 
 def is_run_of(works, value):
     """Whether any value is a RUN of WORKS, however long."""
+    if isinstance(value, tuple) and len(value) > 1000:
+        return walk_far(place_table(works), value) is not None
     return walk(stepper(works), first_place(works), value) is not None
 
 
