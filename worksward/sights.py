@@ -101,7 +101,7 @@ def number_of(numbers, value):
     if not isinstance(value, tuple) or len(value) != 2 or not isinstance(value[0], tuple):
         return None
     for state in (value[1], *value[0]):
-        # True is 1 as a key, too, and what is no integer may be none.
+        # As a key True would be 1, and a list could be none.
         if not isinstance(state, int) or state is True or state is False:
             return None
     return numbers.get(value)

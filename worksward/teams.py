@@ -185,14 +185,11 @@ def _ranks(table):
 def _ring(table, ranks):
     """A node from which a row leads to it again, and this row."""
     at = [node for node in table if node not in ranks][0]
-    places = {}
+    lengths = {}
     row = ()
-    while at not in places:
-        places[at] = len(row)
-        for deed, target in table[at].items():
-            if target is not None and target not in ranks:
-                row = row + (deed,)
-                following = target
-                break
-        at = following
-    return at, row[places[at]:]
+    while at not in lengths:
+        lengths[at] = len(row)
+        ways = [(deed, to) for deed, to in table[at].items() if to is not None and to not in ranks]
+        row = row + ways[0][:1]
+        at = ways[0][1]
+    return at, row[lengths[at]:]
