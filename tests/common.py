@@ -647,3 +647,133 @@ def told_node(works, posts, team, value):
         if node is None:
             return None
     return node
+
+
+# ---------------------------------------------------------------- [80] told again
+
+def told_wire(works, thing):
+    """None of a WIRE, otherwise the part that is due."""
+    if not told_tuple(thing, 3, 3):
+        return "form"
+    if not told_lot(thing[0], works[0]) or len(thing[0]) > 3:
+        return "sight"
+    if not told_int(thing[1], 0, 2):
+        return "delay"
+    return None if told_int(thing[2], 0, 2) else "loss"
+
+
+def some_wire(chance, works):
+    return (some_lot(chance, works[0])[:3], chance.randint(0, 2), chance.randint(0, 2))
+
+
+def told_event(works, wire, at, event):
+    """The place, WAY and GONE behind any value as an event, and what is heard, or None; None of what is no event."""
+    sight, delay, loss = wire
+    place, way, gone = at
+    if not told_tuple(event, 2, 2) or type(event[0]) is not str or not told_int(event[1], 0, works[0] - 1):
+        return None
+    word, deed = event
+    if word == "come":
+        return ((place, way[1:], gone), deed) if way[:1] == (deed,) else None
+    after = told_do(works, place, deed)
+    if after is None or word not in ("done", "lost"):
+        return None
+    if word == "lost":
+        return ((after, way, gone + 1), None) if deed in sight and gone < loss else None
+    if deed not in sight:
+        return ((after, way, gone), None)
+    way += (deed,)
+    return ((after, way[1:], 0), way[0]) if len(way) > delay else ((after, way, 0), None)
+
+
+def told_course(works, wire, value):
+    """The RUN, the NEWS and the last place of any value as a COURSE; None of what is none."""
+    if type(value) is not tuple:
+        return None
+    at = (told_start(works), (), 0)
+    run, news = (), ()
+    for event in value:
+        found = told_event(works, wire, at, event)
+        if found is None:
+            return None
+        at, heard = found
+        run += event[1:] if event[0] != "come" else ()
+        news += (heard,) if heard is not None else ()
+    return run, news, at[0]
+
+
+def all_events(deeds):
+    return [(word, deed) for word in ("come", "done", "lost") for deed in range(deeds)]
+
+
+def told_moves(works, wish, wire, span):
+    """The events of a SPAN behind which the state is good, each with what is heard and the SPAN behind it."""
+    found = []
+    place, state, way, gone = span
+    for event in all_events(works[0]):
+        after = told_event(works, wire, (place, way, gone), event)
+        if after is not None:
+            then = state if event[0] == "come" else wish[0][state][event[1]]
+            if then in wish[1]:
+                found.append((event, after[1], (after[0][0], then) + after[0][1:]))
+    return found
+
+
+def told_spans(works, wish, wire, most=10 ** 9):
+    """The set of the SPANS that come; it may end early behind more than so many."""
+    first = (told_start(works), 0, (), 0)
+    known = {first}
+    waiting = [first]
+    while waiting and len(known) <= most:
+        for _, _, target in told_moves(works, wish, wire, waiting.pop()):
+            if target not in known:
+                known.add(target)
+                waiting.append(target)
+    return known
+
+
+# ---------------------------------------------------------------- [90] told again
+
+def told_entry(deeds, thing):
+    if not told_tuple(thing, 4, 4) or not told_lot(thing[0], deeds) or not told_int(thing[1], 0, 2):
+        return False
+    if not told_row(thing[2], deeds, 0, 8) or not set(thing[2]) <= set(thing[0]):
+        return False
+    return type(thing[3]) is str and thing[3] in ("done", "never")
+
+
+def told_log(deeds, thing):
+    """None of a LOG, otherwise the part that is due."""
+    if not told_tuple(thing, 0, 8):
+        return "form"
+    wrong = [number for number, entry in enumerate(thing) if not told_entry(deeds, entry)]
+    return wrong[0] if wrong else None
+
+
+def told_shows(entry, row):
+    """Whether a row shows an ENTRY: by all ways to lose some of its seen deeds."""
+    seen, loss, kept, _ = entry
+    looks = {((), 0)}
+    for deed in told_look(seen, row):
+        after = {(stay + (deed,), 0) for stay, lost in looks if kept[:len(stay) + 1] == stay + (deed,)}
+        looks = after | {(stay, lost + 1) for stay, lost in looks if lost < loss}
+    return any(stay == kept for stay, _ in looks)
+
+
+def some_entry(chance, deeds, is_plain=False, most=8):
+    seen = tuple(range(deeds)) if is_plain or chance.random() < 0.3 else some_lot(chance, deeds, 0.7)
+    loss = 0 if is_plain else chance.choice([0, 0, 1, 2])
+    row = tuple(chance.choice(seen) for _ in range(chance.randint(0, most))) if seen else ()
+    return (seen, loss, row, chance.choice(["done", "never"]))
+
+
+def some_log(chance, deeds, is_plain=False, most=8, many=None):
+    many = chance.randint(0, 8) if many is None else many
+    return tuple(some_entry(chance, deeds, is_plain, most) for _ in range(many))
+
+
+# WORKS, a WISH and a WIRE with just 60 SPANS, and such with 61.
+SPANS60 = ((3, (((0, 1, 2), (((0, 0), (1, 1), (2, 2)), ((0, 1), (1, 2), (2, 2)), ((0, 1), (1, 1), (2, 2)))),), (2,), ((1,),)),
+           (((1, 0, 2), (1, 0, 2), (0, 0, 0)), (0, 1, 2)), ((0, 1), 2, 1))
+SPANS61 = ((3, (((1,), (((1, 0),), ((1, 1),), ((1, 2),), ((1, 2),))), ((0,), (((0, 2),), (), ((0, 3),), ((0, 3),)))), (2,),
+            ((1, 2), ())), (((0, 1, 1), (1, 1, 1)), (0, 1)), ((0, 1), 2, 2))

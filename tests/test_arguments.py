@@ -8,8 +8,11 @@ import itertools
 import os
 import unittest
 
-from common import (BOUND24, CUBE, JUST24, MORE32, PAIR24, PAIR32, WIDE27, Odd, MANY, RING, SHARED, SIX, TRAP, chance_of, junk, mutations, outcome, same_kind, told_int, told_is_team,
-                    told_is_place, told_lot, told_place, told_posts, told_row, told_saying, told_steps, told_tuple, told_wish, told_works)
+from common import (BOUND24, CUBE, JUST24, MORE32, PAIR24, PAIR32, WIDE27, Odd, MANY, RING, SHARED, SIX, TRAP, chance_of, junk, mutations, outcome,
+                    same_kind, told_course, told_int, told_is_team, told_is_place, told_log, told_lot, told_place, told_posts, told_row, told_saying,
+                    told_steps, told_tuple, told_wire, told_wish, told_works)
+from test_leastlogs import told_starts
+from test_wires import told_may_be
 
 OUT = ("OutOfPlace",)
 # Wishes for two deeds, for three and for four.
@@ -25,6 +28,11 @@ POSTS = (((1,), (2,)), ((0,), (0, 1)))
 TEAM = ((((), (1,)), ((2,), (0,))), (((), (0,)),))
 ONES = (((0, 1, 0), (0, 1, 1)), (0,))
 SAYING = ("and", ("has", (0,)), ("not", ("most", (0, 1), 2)))
+WIRE = ((0, 1), 1, 1)
+COURSE = (("done", 0), ("lost", 0), ("come", 0), ("done", 1))
+LOG = (((0, 1), 1, (0, 1), "done"), ((1,), 0, (), "never"))
+PLAIN = (((0, 1), 0, (0, 1, 1), "done"), ((0, 1), 0, (1,), "never"))
+CASE = ("same", (2, TWO, TWO_MORE), ("unlike", (0, 1)))
 
 
 def told_plan(thing):
@@ -70,6 +78,51 @@ def bad_posts(given, thing):
     return None if part is None else ("BadPost", part)
 
 
+def bad_wire(given, thing):
+    part = told_wire(given["works"], thing)
+    return None if part is None else ("BadWire", part)
+
+
+def bad_less(given, thing):
+    error = bad_wire(given, thing)
+    wire = given["wire"]
+    return error or none_or(thing[0] == wire[0] and thing[1] <= wire[1] and thing[2] <= wire[2], OUT)
+
+
+def bad_log(given, thing):
+    part = told_log(deeds_of(given), thing)
+    return None if part is None else ("BadLog", part)
+
+
+def bad_plain_log(given, thing):
+    return bad_log(given, thing) or none_or(all(len(entry[0]) == deeds_of(given) and entry[1] == 0 for entry in thing), OUT)
+
+
+def is_course(given, thing):
+    return told_tuple(thing, 0, 400) and told_course(given["works"], given["wire"], thing) is not None
+
+
+def is_news(given, thing):
+    return told_row(thing, deeds_of(given), 0, 400) and told_may_be(given["works"], given["wire"], thing) != ()
+
+
+def is_start(given, thing):
+    return told_row(thing, deeds_of(given)) and thing in told_starts(given["log"])
+
+
+def told_thing(thing):
+    """Whether one of the things that are passed here is a THING."""
+    if type(thing) is tuple:
+        return all(told_thing(part) for part in thing)
+    if type(thing) is str:
+        return thing.isalpha()
+    return thing is None or type(thing) is bool or type(thing) is int and abs(thing) < 10 ** 31
+
+
+def is_case(thing):
+    return told_tuple(thing, 3, 3) and thing[0] == "same" and told_tuple(thing[1], 3, 3)
+
+
 # For each kind of argument: the error that is due, or None, by the arguments ahead of it and a thing.
 KINDS = {
     "works": lambda given, thing: told_works(thing),
@@ -93,6 +146,22 @@ KINDS = {
     "faults": lambda given, thing: none_or(told_lot(thing, deeds_of(given)) and thing != (), OUT),
     "prices": lambda given, thing: none_or(told_tuple(thing, deeds_of(given), deeds_of(given))
                                            and all(told_int(price, 0, 9) for price in thing), OUT),
+    "wire": bad_wire,
+    "less": bad_less,
+    "course": lambda given, thing: none_or(is_course(given, thing), OUT),
+    "news": lambda given, thing: none_or(is_news(given, thing), OUT),
+    "sight of a wire": lambda given, thing: none_or(told_lot(thing, deeds_of(given)) and len(thing) <= 3, OUT),
+    "total": lambda given, thing: none_or(told_int(thing, 0, 10 ** 1000), OUT),
+    "log": bad_log,
+    "plain log": bad_plain_log,
+    "entry": lambda given, thing: none_or(told_int(thing, 0, len(given["log"]) - 1), OUT),
+    "start": lambda given, thing: none_or(is_start(given, thing), OUT),
+    "case": lambda given, thing: none_or(is_case(thing), OUT),
+    "book": lambda given, thing: none_or(told_tuple(thing, 0, 12) and all(is_case(case) for case in thing), OUT),
+    "string": lambda given, thing: none_or(type(thing) is str, ("BadText", 0)),
+    "whatever": lambda given, thing: None,
+    "thing": lambda given, thing: none_or(told_thing(thing), OUT),
+    "wire at once": lambda given, thing: bad_wire(given, thing) or none_or(thing[1:] == (0, 0), OUT),
     "paper": lambda given, thing: ("BadPaper", "form"),
     "any": lambda given, thing: None,
 }
@@ -110,6 +179,12 @@ SEEN = WORKS_WISH + (("sight", "sight"),)
 POSTED = WORKS_WISH + (("posts", "posts"),)
 DEEDS_BOTH = (("deeds", "deeds"), ("wish", "wish"), ("other", "wish"))
 FOLLOW = WORKS_WISH + (("other", "wish"),)
+
+WIRED = (("works", "works"), ("wire", "wire"))
+KEPT_OVER = WORKS_WISH + (("wire", "wire"),)
+LOGGED = WORKS_WISH + (("log", "log"),)
+DEEDS_LOG = (("deeds", "deeds"), ("log", "log"))
+STARTS = (("deeds", "deeds"), ("log", "plain log"))
 
 # Module, function, names and kinds of its arguments, and arguments that are right.
 CALLS = [
@@ -224,6 +299,54 @@ CALLS = [
     ("costpapers", "check_mean", PRICED, (RING, (((0, 0),), (0,)), (1, 9), ("most", (9, 1), (
         (((0,), 0), (0,), 0), (((1,), 0), (0,), 0), (((2,), 0), (0, 1), 0))))),
     ("costpapers", "check_total", PRICED, (RING, (((0, 0),), (0,)), (1, 9), ("more", 1, ((((0,), 0), 2), (((1,), 0), 1))))),
+    ("costs", "can_move", WORKS_WISH, (FORK, ONE_WAY)),
+    ("costs", "mean_cost", PRICED[:3], (FORK, ONE_WAY, (1, 2, 4))),
+    ("costs", "most_paper", PRICED[:3], (FORK, ONE_WAY, (1, 2, 4))),
+    ("costs", "least_paper", PRICED[:3], (FORK, ONE_WAY, (1, 2, 4))),
+    ("totals", "least_total", PRICED[:3], (RING, TWO, (1, 9))),
+    ("totals", "total_paper", PRICED[:3] + (("total", "total"),), (RING, TWO, (1, 9), 1)),
+    ("wires", "need_wire", (("works", "works"), ("thing", "wire")), (RING, WIRE)),
+    ("wires", "is_course", WIRED + (("value", "any"),), (RING, WIRE, COURSE)),
+    ("wires", "run_of", WIRED + (("course", "course"),), (RING, WIRE, COURSE)),
+    ("wires", "news_of", WIRED + (("course", "course"),), (RING, WIRE, COURSE)),
+    ("wires", "may_be", WIRED + (("news", "news"),), (RING, WIRE, (0,))),
+    ("wires", "spans", KEPT_OVER, (RING, TWO, ((0,), 1, 1))),
+    ("wirekeeps", "can_keep_over", KEPT_OVER, (RING, TWO, WIRE)),
+    ("wirekeeps", "wire_paper", KEPT_OVER, (RING, TWO, ((0,), 1, 1))),
+    ("wirekeeps", "keeping_wires", WORKS_WISH + (("sight", "sight of a wire"),), (FORK, ONE_WAY, (1,))),
+    ("wirekeeps", "paper_for_less", KEPT_OVER + (("less", "less"), ("paper", "paper")),
+     (SHUT[:3] + (((),),), (((0, 0, 0),), (0,)), ((), 1, 0), ((), 0, 0), ("kept", (
+         (((0,), 0, (), 0), ((0,), 0, (), 0)), (((0,), 0, (), 0), ((1,), 0, (), 0)),
+         (((1,), 0, (), 0), ((0,), 0, (), 0)), (((1,), 0, (), 0), ((1,), 0, (), 0)))))),
+    ("wirekeeps", "paper_for_sight", (("works", "works"), ("wish", "wish"), ("wire", "wire at once"), ("paper", "paper")),
+     (SHUT[:3] + (((),),), (((0, 0, 0),), (0,)), ((0, 1), 0, 0), ("kept", (
+         (((0,), 0, (), 0), ((0,), 0, (), 0)), (((1,), 0, (), 0), ((1,), 0, (), 0)))))),
+    ("wirepapers", "check_wire", KEPT_OVER + (("paper", "paper"),),
+     (RING, (((1, 0), (1, 2), (2, 2)), (0, 1)), ((0,), 0, 0), ("free", (0, 0, 1)))),
+    ("logs", "need_log", (("deeds", "deeds"), ("thing", "log")), (2, LOG)),
+    ("logs", "does_show", DEEDS_LOG + (("number", "entry"), ("row", "row")), (2, LOG, 0, (0, 0, 1))),
+    ("logfits", "do_fit", LOGGED, (RING, TWO, LOG)),
+    ("logfits", "shown_by", LOGGED + (("number", "entry"),), (RING, TWO, LOG, 0)),
+    ("logfits", "fit_paper", LOGGED, (RING, TWO, LOG)),
+    ("logpapers", "check_fit", LOGGED + (("paper", "paper"),), (RING, TWO, LOG, ("fails", 1, ()))),
+    ("leastlogs", "least_log_plan", DEEDS_LOG, (2, PLAIN)),
+    ("leastlogs", "parted_lot", STARTS, (2, PLAIN)),
+    ("leastlogs", "are_parted", STARTS + (("one", "start"), ("other", "start")), (2, PLAIN, (), (0,))),
+    ("marks", "tests_of", (("deeds", "deeds"), ("row", "row")), (2, (0, 1))),
+    ("marks", "are_told", DEEDS_LOG, (2, LOG)),
+    ("marks", "mark_paper", DEEDS_LOG, (2, LOG)),
+    ("marks", "fewest_tests", DEEDS_LOG, (2, LOG)),
+    ("markpapers", "check_marks", DEEDS_LOG + (("paper", "paper"),), (2, LOG, ("told", (("ends", (1,)),)))),
+    ("things", "is_thing", (("value", "whatever"),), (CASE,)),
+    ("things", "thing_text", (("thing", "thing"),), (CASE,)),
+    ("things", "read_thing", (("string", "string"),), ("(a (0 -1) . +)",)),
+    ("casebook", "need_case", (("thing", "case"),), (CASE,)),
+    ("casebook", "judge", (("case", "case"),), (CASE,)),
+    ("casebook", "judged", (("book", "book"),), ((CASE, CASE[:2] + (None,)),)),
+    ("booktexts", "case_text", (("case", "case"),), (CASE,)),
+    ("booktexts", "read_case", (("string", "string"),), ("(same (0 0 0) 0)",)),
+    ("booktexts", "book_text", (("book", "book"),), ((CASE,),)),
+    ("booktexts", "read_book", (("string", "string"),), ("(same (0 0 0) 0)\n(same (0 0 0) 1)",)),
 ]
 
 
@@ -250,7 +373,7 @@ def wrong_things(call, place):
     args = call[3]
     kind = call[2][place][1]
     things = junk() + [MANY, SIX, CUBE, TWO, THREE, (0,) * 401, ((0, 0, 1),)]
-    if kind in ("works", "other", "wish", "plan", "place", "names", "saying", "posts", "team"):
+    if kind in ("works", "other", "wish", "plan", "place", "names", "saying", "posts", "team", "wire", "less", "course", "log", "plain log", "case"):
         things += mutations(args[place], chance_of(place), 60)
     found = []
     for thing in things:
@@ -331,6 +454,8 @@ class Arguments(unittest.TestCase):
         for call in CALLS:
             for thing in (None, [], True, Odd, "form"):
                 error = due_error((*call[:2], call[2][:1], None), (thing,))
+                if error is None:
+                    continue
                 self.assertEqual(outcome(function_of(call), *[thing for _ in call[3]]), error, call[:2])
 
     def test_too_many_places_come_ahead_of_what_stands_behind(self):
@@ -356,7 +481,7 @@ class Arguments(unittest.TestCase):
 
     def test_any_value_is_answered(self):
         calls = [call for call in CALLS if call[2][-1][1] == "any"]
-        self.assertEqual(len(calls), 4)
+        self.assertEqual(len(calls), 5)
         for call in calls:
             function = function_of(call)
             for thing in junk() + [list(call[3][-1]), RING, (0, True), (0, 0.0), ((0,),), (0, None), (1.0,), {0, 1}, "01"]:
@@ -395,7 +520,7 @@ class Form(unittest.TestCase):
                     self.assertLessEqual(node.end_lineno - node.lineno, 39, node.name)
                 self.assertNotIsInstance(node, ast.Import)
                 if isinstance(node, ast.ImportFrom):
-                    self.assertTrue(node.module.startswith("worksward.") or node.module == "math", path)
+                    self.assertTrue(node.module.startswith("worksward.") or node.module in ("math", "heapq"), path)
 
 
 if __name__ == "__main__":
