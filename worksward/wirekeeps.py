@@ -12,24 +12,29 @@ def can_keep_over(works, wish, wire):
     """Whether a WISH can be kept over a WIRE."""
     need_both(works, wish)
     need_wire_of(works, wire)
-    return _is_kept(works, wish, need_spans(works, wish, wire))
+    return _is_kept(works, pair_stepper(works, wish), wire)
 
 
 def wire_paper(works, wish, wire):
     """A paper on whether a WISH can be kept over a WIRE."""
     need_both(works, wish)
     need_wire_of(works, wire)
-    table = need_spans(works, wish, wire)
+    steps_at = pair_stepper(works, wish)
+    table = need_spans(works, steps_at, wire)
     nodes = sorted(table)
-    clashes = clashes_of(works, wish, nodes)
+    clashes = clashes_of(works, steps_at, nodes)
     if clashes is None:
         return ("free", _run_freely_out(works, wish))
     rows = _rows(nodes, table, clashes)
     if rows is None:
-        return ("alike", *_clash(works, wish, nodes, table, clashes))
+        return ("alike", *_clash(steps_at, nodes, table, clashes))
     couples = []
+    # Many SPANS have the same others.
+    lots = {}
     for one, row in zip(nodes, rows):
-        couples += [(one, nodes[number]) for number in numbers_in(row)]
+        if row not in lots:
+            lots[row] = [nodes[number] for number in numbers_in(row)]
+        couples += [(one, two) for two in lots[row]]
     return ("kept", tuple(couples))
 
 
@@ -38,16 +43,18 @@ def keeping_wires(works, wish, sight):
     need_both(works, wish)
     if not is_wire_sight(works, sight):
         raise OutOfPlace("sight is not an ascending tuple of at most 3 deeds")
-    table = need_spans(works, wish, (sight, 2, 2))
-    loss = 2
-    if _is_kept(works, wish, table):
-        return tuple([(delay, less) for delay in range(3) for less in range(3)])
+    steps_at = pair_stepper(works, wish)
+    if _is_kept(works, steps_at, (sight, 2, 2)):
+        return tuple([(delay, loss) for delay in range(3) for loss in range(3)])
     found = []
+    bound = 3
     for delay in range(3):
-        # What cannot be kept by less DELAY cannot be by more.
-        while loss >= 0 and not _is_kept(works, wish, need_spans(works, wish, (sight, delay, loss))):
-            loss -= 1
-        found += [(delay, less) for less in range(loss + 1)]
+        loss = 0
+        # What cannot be kept by less DELAY and LOSS cannot be by more.
+        while loss < bound and _is_kept(works, steps_at, (sight, delay, loss)):
+            found.append((delay, loss))
+            loss += 1
+        bound = loss
     return tuple(found)
 
 
@@ -59,7 +66,7 @@ def paper_for_less(works, wish, wire, less, paper):
     if less[0] != wire[0] or less[1] > wire[1] or less[2] > wire[2]:
         raise OutOfPlace("less is not a wire with the same sight and no more delay and loss")
     couples = _need_kept(works, wish, wire, paper)
-    table = need_spans(works, wish, less)
+    table = need_spans(works, pair_stepper(works, wish), less)
     return ("kept", tuple([(one, two) for one, two in couples if one in table and two in table]))
 
 
@@ -75,14 +82,16 @@ def paper_for_sight(works, wish, wire, paper):
 
 def _need_kept(works, wish, wire, paper):
     """The couples of SPANS of a paper with "kept"; refuses another one."""
-    if judged_wire(works, wish, wire, need_spans(works, wish, wire), paper) != "kept":
+    if judged_wire(works, wish, wire, paper) != "kept":
         raise BadPaper("form")
     return paper[1]
 
 
-def _is_kept(works, wish, table):
+def _is_kept(works, steps_at, wire):
+    """Whether a WISH can be kept over a WIRE; refuses too many SPANS."""
+    table = need_spans(works, steps_at, wire)
     nodes = sorted(table)
-    clashes = clashes_of(works, wish, nodes)
+    clashes = clashes_of(works, steps_at, nodes)
     if clashes is None:
         return False
     return not any(clashes) or _rows(nodes, table, clashes) is not None
@@ -103,6 +112,7 @@ def _rows(nodes, table, clashes):
     quiet, heard = moves_of(nodes, table)
     widths, jumps = _closed(quiet, heard)
     rows = [0] * len(nodes)
+    known = {}
     more = {0: widths[0]}
     waiting = [0]
     while len(waiting) > 0:
@@ -114,14 +124,15 @@ def _rows(nodes, table, clashes):
         more[number] = 0
         found = [(target, fresh) for target in quiet[number]]
         for deed, targets in heard[number].items():
-            behind = mask_behind(jumps[deed], fresh)
-            found += [(target, behind) for target in targets]
+            if (deed, fresh) not in known:
+                known[(deed, fresh)] = mask_behind(jumps[deed], fresh)
+            found += [(target, known[(deed, fresh)]) for target in targets]
         for target, mask in found:
-            known = more.get(target, 0)
-            if mask & ~(rows[target] | known):
-                if known == 0:
+            old = more.get(target, 0)
+            if mask & ~(rows[target] | old):
+                if old == 0:
                     waiting.append(target)
-                more[target] = known | mask
+                more[target] = old | mask
     return rows
 
 
@@ -134,11 +145,12 @@ def _closed(quiet, heard):
     widths = [width | 1 << number for number, width in enumerate(widths)]
     for number in range(len(widths)):
         through = widths[number]
-        widths = [width | through if width >> number & 1 else width for width in widths]
+        if len(quiet[number]) > 0:
+            widths = [width | through if width >> number & 1 else width for width in widths]
     return widths, {deed: [mask_behind(widths, mask) for mask in row] for deed, row in jumps.items()}
 
 
-def _clash(works, wish, nodes, table, clashes):
+def _clash(steps_at, nodes, table, clashes):
     """ONE, OTHER and DEED of a paper with "alike"; there must be one.
 
     A couple of SPANS is written as one number, six bits for each.
@@ -153,7 +165,7 @@ def _clash(works, wish, nodes, table, clashes):
             one = couple >> 6
             two = couple & 63
             if clashes[one] >> two & 1:
-                return (*_courses_to(ahead, couple), _parting_deed(works, wish, nodes[one], nodes[two]))
+                return (*_courses_to(ahead, couple), _parting_deed(steps_at, nodes[one], nodes[two]))
             for target, event, other in _couples_behind(events[one], events[two], couple):
                 if target not in ahead:
                     ahead[target] = (couple, event, other)
@@ -191,9 +203,8 @@ def _courses_to(ahead, couple):
     return tuple(ones[::-1]), tuple(others[::-1])
 
 
-def _parting_deed(works, wish, one, two):
+def _parting_deed(steps_at, one, two):
     """A deed that goes on from one SPAN, and leads out from the other one."""
-    steps_at = pair_stepper(works, wish)
     steps = steps_at(one[:2])
     others = steps_at(two[:2])
     return [deed for deed in others if others[deed] is None and steps.get(deed) is not None][0]

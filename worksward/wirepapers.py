@@ -14,20 +14,22 @@ def check_wire(works, wish, wire, paper):
     """The word of a paper on whether a WISH can be kept over a WIRE."""
     need_both(works, wish)
     need_wire_of(works, wire)
-    return judged_wire(works, wish, wire, need_spans(works, wish, wire), paper)
+    return judged_wire(works, wish, wire, paper)
 
 
-def judged_wire(works, wish, wire, table, paper):
-    """The word of a paper, the SPANS that come being known; refuses one that does not hold."""
+def judged_wire(works, wish, wire, paper):
+    """The word of a paper, the other arguments being such; refuses too many SPANS, then one that does not hold."""
+    steps_at = pair_stepper(works, wish)
+    table = need_spans(works, steps_at, wire)
     word = need_paper(paper, {"kept": 2, "free": 2, "alike": 4})
     if word == "kept":
-        return need_proof(word, _is_kept_table(works, wish, table, paper[1]))
+        return need_proof(word, _is_kept_table(works, steps_at, table, paper[1]))
     if word == "free":
         return need_proof(word, leads_freely_out(works, wish, pair_table(works, wish), paper[1]))
-    return need_proof(word, _are_alike(works, wish, wire, paper[1:]))
+    return need_proof(word, _are_alike(works, wish, steps_at, wire, paper[1:]))
 
 
-def _are_alike(works, wish, wire, told):
+def _are_alike(works, wish, steps_at, wire, told):
     one, other, deed = told
     ones = told_by(works, wire, one)
     others = told_by(works, wire, other)
@@ -37,14 +39,13 @@ def _are_alike(works, wish, wire, told):
     beside = pair_behind(works, wish, others[0])
     if standing is None or beside is None:
         return False
-    steps_at = pair_stepper(works, wish)
     steps = steps_at(beside)
     return steps_at(standing).get(deed) is not None and deed in steps and steps[deed] is None
 
 
-def _is_kept_table(works, wish, table, couples):
+def _is_kept_table(works, steps_at, table, couples):
     nodes = sorted(table)
-    clashes = clashes_of(works, wish, nodes)
+    clashes = clashes_of(works, steps_at, nodes)
     # All SPANS come in couples of themselves, so none may have a deed of FREE that leads out.
     if clashes is None:
         return False
@@ -100,9 +101,8 @@ def _number_of(numbers, value):
     return numbers.get(value)
 
 
-def clashes_of(works, wish, nodes):
+def clashes_of(works, steps_at, nodes):
     """For each SPAN a mask of those from which a deed leads out that goes on from it; None if one of FREE leads out."""
-    steps_at = pair_stepper(works, wish)
     outs = [0] * works[0]
     goes = []
     for number, (place, state, _, _) in enumerate(nodes):

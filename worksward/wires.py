@@ -154,22 +154,22 @@ def spans(works, wish, wire):
     """The ascending tuple of all SPANS that come behind COURSES with wished RUNS."""
     need_both(works, wish)
     need_wire_of(works, wire)
-    return tuple(sorted(need_spans(works, wish, wire)))
+    return tuple(sorted(need_spans(works, pair_stepper(works, wish), wire)))
 
 
-def need_spans(works, wish, wire):
+def need_spans(works, steps_at, wire):
     """A dict of the SPANS that come behind COURSES with wished RUNS, each with its events; refuses more than 60.
 
-    An event stands with the deed that is heard, or None, and the SPAN behind it.
+    An event stands with the deed that is heard, or None, and the SPAN behind it. The steps of STANDINGS are given.
     """
-    steps_at = pair_stepper(works, wish)
     first = (*first_pair(works), (), 0)
     known = {first: _events(steps_at, wire, first)}
     layer = [first]
     while len(layer) > 0:
         following = []
         for span in layer:
-            for _, _, target in known[span]:
+            events = known[span]
+            for _, _, target in events:
                 if target not in known:
                     if len(known) == 60:
                         raise TooMany(60)
