@@ -274,3 +274,23 @@ def plan_of(deeds, table, goals):
     numbers = {node: number for number, node in enumerate(table)}
     rows = [tuple([(deed, numbers[node]) for deed, node in steps.items()]) for steps in table.values()]
     return (deeds, tuple(rows), tuple([number for node, number in numbers.items() if node in goals]))
+
+
+def ranks_from(layer, sources, left):
+    """A RANK for each node of a first layer, and for each one that follows: when as many as are left have led to it.
+
+    Sources has for each node those to which it leads; what is left is counted down. RANKS behind are greater.
+    """
+    ranks = {}
+    rank = 0
+    while len(layer) > 0:
+        following = []
+        for node in layer:
+            ranks[node] = rank
+            for source in sources[node]:
+                left[source] -= 1
+                if left[source] == 0:
+                    following.append(source)
+        layer = following
+        rank += 1
+    return ranks

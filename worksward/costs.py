@@ -9,6 +9,7 @@ where he is the other side: the chooser always wants little.
 from heapq import heappop, heappush
 from math import gcd
 
+from worksward.basics import ranks_from
 from worksward.costpapers import need_prices
 from worksward.errors import Nothing
 from worksward.sights import coded
@@ -35,26 +36,30 @@ def mean_cost(works, wish, prices):
 
 def most_paper(works, wish, prices):
     """A paper on the MEAN with "most"."""
-    nodes, goes, gone = _need_moving(works, wish, prices)
-    game = _game(works, goes, gone, prices, True)
-    mean, heights, weighed = _value(game, _first_mean(game))
-    rows = []
-    for number, ways in _ways_from_first(game, heights, weighed):
-        rows.append((nodes[number], tuple(sorted([deed for _, _, deed in ways])), heights[number]))
-    return ("most", mean, tuple(sorted(rows)))
+    _, mean, rows = _told(works, wish, prices, True)
+    return ("most", mean, tuple([(pair, deeds, height) for pair, deeds, height, _ in rows]))
 
 
 def least_paper(works, wish, prices):
     """A paper on the MEAN with "least"."""
+    gone, mean, rows = _told(works, wish, prices, False)
+    table = [(pair, deeds[0] if is_chosen else None, height) for pair, deeds, height, is_chosen in rows]
+    return ("least", (-mean[0], mean[1]), gone, tuple(table))
+
+
+def _told(works, wish, prices, is_guard):
+    """What is gone, as a paper has it; the mean that the chooser comes to; and a row for each PAIR that comes then.
+
+    A row has the PAIR, the deeds that are done there, the HEIGHT, and whether the chooser goes on from there.
+    """
     nodes, goes, gone = _need_moving(works, wish, prices)
-    game = _game(works, goes, gone, prices, False)
+    game = _game(works, goes, gone, prices, is_guard)
     mean, heights, weighed = _value(game, _first_mean(game))
     rows = []
-    for number, ways in _ways_from_first(game, heights, weighed):
-        deed = ways[0][2] if game[1][number] else None
-        rows.append((nodes[number], deed, heights[number]))
-    away = [(nodes[number], rank) for number, rank in sorted(gone.items())]
-    return ("least", (-mean[0], mean[1]), tuple(away), tuple(sorted(rows)))
+    for number, ways in sorted(_ways_from_first(game, heights, weighed).items()):
+        deeds = tuple(sorted([deed for _, _, deed in ways]))
+        rows.append((nodes[number], deeds, heights[number], game[1][number]))
+    return tuple([(nodes[number], rank) for number, rank in sorted(gone.items())]), mean, rows
 
 
 def _need_moving(works, wish, prices):
@@ -86,19 +91,7 @@ def _gone(works, goes, outs):
             layer.append(number)
         for target in targets:
             sources[target].append(number)
-    gone = {}
-    rank = 0
-    while len(layer) > 0:
-        following = []
-        for number in layer:
-            gone[number] = rank
-            for source in sources[number]:
-                left[source] -= 1
-                if left[source] == 0:
-                    following.append(source)
-        layer = following
-        rank += 1
-    return gone
+    return ranks_from(layer, sources, left)
 
 
 def _game(works, goes, gone, prices, is_guard):
@@ -240,7 +233,7 @@ def _risen(weighed, heights, chosen):
 
 
 def _ways_from_first(game, heights, weighed):
-    """A list of pairs of each number that comes from the first PAIR on and its ways, just one where it is chosen."""
+    """A dict of the numbers that come from the first PAIR on, with their ways, just the best one where it is chosen."""
     ways, chooses = game
     found = {}
     waiting = [0]
@@ -253,7 +246,7 @@ def _ways_from_first(game, heights, weighed):
                 at = sums.index(min([total for total in sums if total is not None]))
                 found[number] = [ways[number][at]]
             waiting += [target for _, target, _ in found[number]]
-    return list(found.items())
+    return found
 
 
 def _least_mean(ways):

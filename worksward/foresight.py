@@ -1,5 +1,6 @@
 """Doomed places, which FAULTS are foreseen by a SIGHT, and papers on it."""
 
+from worksward.basics import ranks_from
 from worksward.faults import need_faults, need_numbered
 from worksward.sights import need_sight
 from worksward.works import need_works, place_table
@@ -59,19 +60,7 @@ def _doomed_ranks(table, faults):
         # At a still place there is no fault to come.
         if len(targets) == 0 and len(steps) > 0:
             ready.append(place)
-    ranks = {}
-    rank = 0
-    while len(ready) > 0:
-        following = []
-        for place in ready:
-            ranks[place] = rank
-            for source in sources[place]:
-                left[source] -= 1
-                if left[source] == 0:
-                    following.append(source)
-        ready = following
-        rank += 1
-    return ranks
+    return ranks_from(ready, sources, left)
 
 
 def _couples(goes, faults, sight, ranks):

@@ -1,6 +1,6 @@
 """TEAMS of POSTS: what passes, whether a WISH is kept within, whether WORKS are brought to a GOAL, papers on both."""
 
-from worksward.basics import first_out, first_rows, is_below, is_lot, is_tuple, is_tuple_of, spread, walk
+from worksward.basics import first_out, first_rows, is_below, is_lot, is_tuple, is_tuple_of, ranks_from, spread, walk
 from worksward.errors import OutOfPlace
 from worksward.posts import need_posts_of
 from worksward.wishes import need_both
@@ -168,18 +168,8 @@ def _ranks(table):
         for target in targets:
             sources[target].append(node)
         if len(targets) == 0:
-            ready.append((node, 0))
-    ranks = {}
-    while len(ready) > 0:
-        following = []
-        for node, rank in ready:
-            ranks[node] = rank
-            for source in sources[node]:
-                left[source] -= 1
-                if left[source] == 0:
-                    following.append((source, rank + 1))
-        ready = following
-    return ranks
+            ready.append(node)
+    return ranks_from(ready, sources, left)
 
 
 def _ring(table, ranks):

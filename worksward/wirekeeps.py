@@ -137,9 +137,9 @@ def _rows(nodes, table, clashes):
 
 
 def _closed(quiet, heard):
-    """Masks of what comes from each SPAN by events at which nothing is heard, itself included; and, for each deed that
+    """Masks of what comes from each SPAN while nothing is heard, itself included.
 
-    is heard, of what comes by it and such events behind it.
+    Beside them, for each deed that is heard, masks of what comes by it, and while nothing is heard behind it.
     """
     widths, jumps = masks_of(quiet, heard)
     widths = [width | 1 << number for number, width in enumerate(widths)]
