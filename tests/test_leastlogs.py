@@ -88,6 +88,12 @@ class LeastPlans(unittest.TestCase):
         for log in ((entry(2, (0, 1)), entry(2, (0,), "never")), (entry(2, (), "never"),), (entry(1, (0,)), entry(1, (0,), "never"))):
             self.assertEqual(least_log_plan(log[0][0][-1] + 1, log), None)
         self.assertEqual(least_log_plan(4, (entry(4, (0, 1)), entry(4, (1, 0), "never"))), None)
+        # Just one number too many: so many times a deed, and no more.
+        for deeds, most in ((1, 4), (2, 3), (3, 2), (4, 1), (6, 1)):
+            for many in range(1, 7):
+                log = (entry(deeds, (0,) * many), entry(deeds, (0,) * (many + 1), "never"))
+                found = least_log_plan(deeds, log)
+                self.assertEqual(None if found is None else len(found[1]), many + 1 if many + 1 <= most else None)
         self.assertEqual(least_log_plan(3, (entry(3, (0, 1)), entry(3, (1, 0), "never"))), (3, (((0, 0), (1, 1)), ()), ()))
 
     def test_by_chance(self):

@@ -49,7 +49,8 @@ def some_thing(chance, depth=4):
 
 
 GOOD = [0, 1, -1, 10, -10, MOST, -MOST, None, True, False, "a", "z", "word", "abcdefghijkl", (), ((),), (0,), ((), ()), (None, True, False),
-        ("wrong", (1, (2, -3)), "part"), nested(20), nested(20, 0), nested(19, (1, 2)), (0,) * 3999, ((),) * 3999]
+        ("wrong", (1, (2, -3)), "part"), nested(20), nested(20, 0), nested(20, -10), nested(20, "abcdefghijkl"), nested(19, (1, 2)), nested(19, (10, "ab")), (0,) * 3999,
+        (10,) * 3999, ("abc",) * 3999, ((),) * 3999]
 BAD = [10 ** 31, -10 ** 31, 10 ** 999, "", "A", "aB", "a b", "abcdefghijklm", "a1", "1", "a\n", " a", "+", ".", "(a)", "\u00e9", "\u00df", 1.0, 0.0, b"a", b"",
        [], [0], {}, {0}, set(), frozenset(), Odd(), Odd, Equal(), len, range(2), ([],), (0, [1]), (1.0,), (Odd(),), ("A",), ((), ((), "")), (10 ** 31,),
        nested(21), nested(21, 0), nested(20, (0,)), (0, nested(20, 1)), nested(50, 0), (0,) * 4000, ((),) * 4000, ((0,) * 3998,) + (0,), 1j, slice(1)]
@@ -158,9 +159,8 @@ class Texts(unittest.TestCase):
         chance = chance_of(382)
         for _ in range(200):
             thing = nested(chance.randint(15, 24), some_thing(chance, 2))
-            due = told_depth(thing) - (1 if "()" in told_text(thing) else 0)
             self.assertEqual(outcome(read_thing, told_text(thing)), ("ok", thing) if is_thing(thing) else ("BadText", 1))
-            self.assertTrue(is_thing(thing) or due >= 20)
+            self.assertTrue(is_thing(thing) or told_depth(thing) > 20)
 
     def test_by_name(self):
         self.assertIs(is_thing(value=0), True)

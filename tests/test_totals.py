@@ -69,6 +69,10 @@ class Totals(unittest.TestCase):
         self.assertEqual(least_total(works, ALL2, (0, 0)), 0)
         self.assertEqual(least_total(works, ALL2, (0, 7)), 7)
         self.assertEqual(least_total(works[:3] + (((),),), ALL2, (0, 0)), None)
+        # A row does not tell a deed that stays, or goes back, though it costs nothing.
+        for other in (works, TWO_WAYS):
+            paper = total_paper(other, ALL2, (0, 0), 0)
+            self.assertEqual(check_total(other, ALL2, (0, 0), paper), "total")
 
     def test_by_chance(self):
         seen = {}

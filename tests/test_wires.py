@@ -115,7 +115,7 @@ class Courses(unittest.TestCase):
 
     def test_what_is_none(self):
         wire = ((0,), 1, 1)
-        for course in ((("come", 0),), (("lost", 1),), (("lost", 0), ("lost", 0)), done(0, 1), done(2), done(-1), done(True), done(0.0),
+        for course in ((("come", 0),), (("lost", 1),), (("lost", 0), ("lost", 0)), done(0, 1), done(2), done(-1), done(True), done(False), done(0.0),
                        done(0) + (("come", 1),), done(0) + (("come", 0), ("come", 0)), [("done", 0)], (["done", 0],), ("done", 0),
                        (("done",),), (("done", 0, 0),), (("Done", 0),), (("done", "0"),), (("", 0),), ((None, 0),), ((b"done", 0),),
                        (("done", None),), (("done", (0,)),), (("done", [0]),), (([], 0),), ((Equal(), 0),), (("done", Equal()),), (Odd(),),

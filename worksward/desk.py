@@ -35,8 +35,6 @@ class Desk:
         if not isinstance(line, str):
             return "no"
         word, *words = line.split(" ")
-        if word == "" or "" in words:
-            return "no"
         try:
             answer = self._answer(word, words)
         except (BadLog, BadPaper, BadPost, BadText, BadWire, BadWish, BadWorks, Nothing, OutOfPlace, TooMany):
