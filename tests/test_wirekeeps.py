@@ -169,6 +169,15 @@ class Kept(unittest.TestCase):
         for delay, loss in itertools.product(range(3), repeat=2):
             self.assertIs(can_keep_over(works, wish, ((0, 1), delay, loss)), delay + loss <= 1)
 
+    def test_as_much_delay_or_loss_as_may_be(self):
+        for works, wish, due in (
+                ((3, (((0, 1), (((0, 2), (1, 1)), ((1, 0),), ((1, 1),))),), (), ((),)), (((2, 2, 2), (1, 2, 1), (1, 0, 1)), (0, 2)), ((0, 0), (1, 0), (2, 0))),
+                ((2, (((0, 1), (((0, 0), (1, 1)), ((1, 2),), ((1, 0),))),), (), ((),)), (((0, 2), (0, 1), (1, 2)), (0, 2)),
+                 ((0, 0), (0, 1), (0, 2), (1, 0), (2, 0)))):
+            self.assertEqual(keeping_wires(works, wish, (0, 1)), due)
+            for delay, loss in itertools.product(range(3), repeat=2):
+                self.assertIs(told_keeps(works, wish, ((0, 1), delay, loss)), (delay, loss) in due)
+
     def test_by_chance(self):
         seen = {}
         for works, wish, wire in cases(310, 300):

@@ -178,7 +178,7 @@ def _friends(rows, nevers):
     for number, start in enumerate(rows):
         for row in nevers:
             if start[:len(row)] == row:
-                lot = range(len(rows))
+                lot = list(range(len(rows)))
             elif row[:len(start)] == start:
                 more = row[len(start):]
                 # Beginnings of starts are starts.

@@ -156,7 +156,9 @@ def _clash(steps_at, nodes, table, clashes):
     A couple of SPANS is written as one number, six bits for each.
     """
     numbers = {node: number for number, node in enumerate(nodes)}
-    events = [[(event, deed, numbers[target]) for event, deed, target in table[node]] for node in nodes]
+    events = []
+    for node in nodes:
+        events.append([((word, deed), heard, numbers[target]) for word, deed, heard, target in table[node]])
     ahead = {0: None}
     layer = [0]
     while len(layer) > 0:

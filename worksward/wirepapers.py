@@ -132,7 +132,7 @@ def moves_of(nodes, table):
     for node in nodes:
         silent = []
         told = {}
-        for _, deed, target in table[node]:
+        for _, _, deed, target in table[node]:
             if deed is None:
                 silent.append(numbers[target])
             elif deed in told:

@@ -160,7 +160,8 @@ def spans(works, wish, wire):
 def need_spans(works, steps_at, wire):
     """A dict of the SPANS that come behind COURSES with wished RUNS, each with its events; refuses more than 60.
 
-    An event stands with the deed that is heard, or None, and the SPAN behind it. The steps of STANDINGS are given.
+    Behind the word and the deed of an event stand the deed that is heard, or None, and the SPAN that follows. The steps
+    of STANDINGS are given.
     """
     first = (*first_pair(works), (), 0)
     known = {first: _events(steps_at, wire, first)}
@@ -169,7 +170,7 @@ def need_spans(works, steps_at, wire):
         following = []
         for span in layer:
             events = known[span]
-            for _, _, target in events:
+            for _, _, _, target in events:
                 if target not in known:
                     if len(known) == 60:
                         raise TooMany(60)
@@ -180,22 +181,22 @@ def need_spans(works, steps_at, wire):
 
 
 def _events(steps_at, wire, span):
-    """The events of a SPAN behind which the RUN is wished, each with what is heard and the SPAN behind it."""
+    """The events of a SPAN behind which the RUN is wished, as need_spans() tells them."""
     sight, delay, loss = wire
     place, state, way, gone = span
     events = []
     for deed, pair in steps_at((place, state)).items():
         if pair is not None:
             if deed not in sight:
-                events.append((("done", deed), None, (*pair, way, gone)))
+                events.append(("done", deed, None, (*pair, way, gone)))
                 continue
             longer = way + (deed,)
             if len(longer) > delay:
-                events.append((("done", deed), longer[0], (*pair, longer[1:], 0)))
+                events.append(("done", deed, longer[0], (*pair, longer[1:], 0)))
             else:
-                events.append((("done", deed), None, (*pair, longer, 0)))
+                events.append(("done", deed, None, (*pair, longer, 0)))
             if gone < loss:
-                events.append((("lost", deed), None, (*pair, way, gone + 1)))
+                events.append(("lost", deed, None, (*pair, way, gone + 1)))
     if len(way) > 0:
-        events.append((("come", way[0]), way[0], (place, state, way[1:], gone)))
+        events.append(("come", way[0], way[0], (place, state, way[1:], gone)))
     return events
