@@ -127,6 +127,18 @@ class LeastPlans(unittest.TestCase):
             seen[deeds, len(found[1])] = seen.get((deeds, len(found[1])), 0) + 1
         self.assertTrue({(1, 2), (2, 2), (3, 2)} <= set(seen), seen)
 
+    def test_rows_that_must_be_longer(self):
+        # The first row could end earlier, but then no other rows do.
+        for deeds, log, rows in (
+                (2, (entry(2, (0, 0, 1)), entry(2, (0, 1), "never")), (((0, 1), (1, 0)), ((0, 0),))),
+                (2, (((0, 1), 1, (1, 0, 1), "done"), ((0,), 2, (0, 0, 0), "never"), ((1,), 2, (1, 1), "done")), (((0, 1), (1, 0)), ((1, 1),))),
+                (3, (entry(3, (2, 1, 2), "never"), entry(3, (0, 1, 2), "never"), entry(3, (1, 1, 2, 2, 1))),
+                 (((0, 0), (1, 1), (2, 0)), ((0, 0), (1, 0)))),
+                (3, (((0, 1, 2), 2, (2, 2, 1), "done"), ((0, 1, 2), 1, (2, 1, 2), "never")), (((0, 0), (1, 1), (2, 0)), ())),
+                (2, (((0,), 1, (0, 0, 0, 0), "never"), ((0, 1), 2, (1, 0, 0), "done")), (((0, 1), (1, 0)), ((0, 2),), ()))):
+            self.assertEqual(least_log_plan(deeds, log), (deeds, rows, ()))
+            self.assertEqual(told_least(deeds, log), (deeds, rows, ()))
+
     def test_what_need_not_see_all(self):
         self.assertEqual(least_log_plan(2, (((1,), 0, (1, 1), "done"), ((0, 1), 0, (1,), "never"))), (2, (((0, 1),), ((0, 0), (1, 0))), ()))
         self.assertEqual(least_log_plan(2, (((0,), 1, (0,), "never"), ((1,), 0, (1,), "done"))), (2, (((1, 0),),), ()))

@@ -173,10 +173,33 @@ class Kept(unittest.TestCase):
         for works, wish, due in (
                 ((3, (((0, 1), (((0, 2), (1, 1)), ((1, 0),), ((1, 1),))),), (), ((),)), (((2, 2, 2), (1, 2, 1), (1, 0, 1)), (0, 2)), ((0, 0), (1, 0), (2, 0))),
                 ((2, (((0, 1), (((0, 0), (1, 1)), ((1, 2),), ((1, 0),))),), (), ((),)), (((0, 2), (0, 1), (1, 2)), (0, 2)),
-                 ((0, 0), (0, 1), (0, 2), (1, 0), (2, 0)))):
+                 ((0, 0), (0, 1), (0, 2), (1, 0), (2, 0))),
+                # With DELAY 3 it could be kept as well.
+                ((3, (((0, 1, 2), (((0, 1),), ((1, 0), (2, 1)), ((0, 0), (2, 3)), ())), ((1, 2), (((1, 1), (2, 0)), ((1, 0),)))), (), ((2, 3), ())),
+                 (((0, 1, 0), (1, 1, 2), (1, 0, 0)), (0, 1)), ((0, 0), (0, 1), (1, 0), (1, 1), (2, 0)))):
             self.assertEqual(keeping_wires(works, wish, (0, 1)), due)
             for delay, loss in itertools.product(range(3), repeat=2):
                 self.assertIs(told_keeps(works, wish, ((0, 1), delay, loss)), (delay, loss) in due)
+
+    def test_several_under_way(self):
+        # What comes is the oldest one of the deeds under way: 1, and not 0 behind it.
+        works = (3, (((0, 1, 2), (((2, 1),), ((0, 1), (1, 0)))),), (), ((0,),))
+        wish = (((1, 0, 0), (1, 1, 2), (1, 2, 0)), (0, 1))
+        paper = wire_paper(works, wish, ((0, 1, 2), 2, 0))
+        self.assertEqual(paper[0], "alike")
+        self.assertEqual(told_check(works, wish, ((0, 1, 2), 2, 0), paper), ("ok", "alike"))
+        chance = chance_of(317)
+        many = 0
+        while many < 60:
+            works = some_works(chance, chance.randint(2, 3), 1, most=4, part=0.7)
+            works = works[:2] + ((),) + works[3:]
+            wish = some_wish(chance, works[0], 3, 0.6)
+            wire = (tuple(range(works[0])), 2, chance.choice([0, 0, 1]))
+            if len(told_spans(works, wish, wire, 60)) <= 60:
+                paper = wire_paper(works, wish, wire)
+                if paper[0] == "alike":
+                    self.assertEqual(told_check(works, wish, wire, paper), ("ok", "alike"), (works, wish, wire))
+                    many += 1
 
     def test_by_chance(self):
         seen = {}

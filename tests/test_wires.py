@@ -119,7 +119,7 @@ class Courses(unittest.TestCase):
                        done(0) + (("come", 1),), done(0) + (("come", 0), ("come", 0)), [("done", 0)], (["done", 0],), ("done", 0),
                        (("done",),), (("done", 0, 0),), (("Done", 0),), (("done", "0"),), (("", 0),), ((None, 0),), ((b"done", 0),),
                        (("done", None),), (("done", (0,)),), (("done", [0]),), (([], 0),), ((Equal(), 0),), (("done", Equal()),), (Odd(),),
-                       ((("done", 0),),), (("come", True),), (0, 1), None, "done", {}, (("done", 10 ** 30),)):
+                       ((("done", 0),),), (("come", True),), (0, 1), None, "done", {}, (("done", 10 ** 30),), done(0) + ((Equal(), 0),)):
             self.assertIs(is_course(SWING, wire, course), False, course)
             self.assertEqual(outcome(run_of, SWING, wire, course), ("OutOfPlace",), course)
             self.assertEqual(outcome(news_of, SWING, wire, course), ("OutOfPlace",), course)

@@ -79,7 +79,8 @@ def _read(string):
         word = core.rstrip(")")
         begun = len(part) - len(core)
         ended = len(core) - len(word)
-        if len(lists) == 1 and len(lists[0]) > 0 or len(lists) + begun > 22 - len(word[:1]):
+        # What is in the first list is whole.
+        if len(lists[0]) > 0 or len(lists) + begun > 22 - len(word[:1]):
             return None
         lists += [[] for _ in range(begun)]
         many += begun + len(word[:1])

@@ -30,7 +30,7 @@ def total_paper(works, wish, prices, total):
     pairs, goals, ways = _field(works, wish, prices)
     totals = _totals(goals, ways)
     if 0 in totals and totals[0] <= total:
-        return ("total", total, _rows_of(pairs, goals, ways, totals))
+        return ("total", total, _rows_of(pairs, ways, totals))
     # What was not met costs as much as the first PAIR at least; if that was not met, it is never brought to a GOAL.
     most = totals.get(0)
     rows = [(pair, totals.get(number, most)) for number, pair in enumerate(pairs)]
@@ -89,7 +89,7 @@ def _totals(goals, ways):
     return totals
 
 
-def _rows_of(pairs, goals, ways, totals):
+def _rows_of(pairs, ways, totals):
     """The rows of a paper with "total": what comes from the first PAIR on by the deeds that cost the least."""
     steps = {number: at for at, number in enumerate(totals)}
     rows = []
@@ -98,12 +98,8 @@ def _rows_of(pairs, goals, ways, totals):
     while len(waiting) > 0:
         number = waiting.pop()
         is_free, row = ways[number]
-        if number in goals:
-            chosen = []
-        elif is_free:
-            chosen = row
-        else:
-            chosen = [way for way in row if _is_best(way, number, totals, steps)][:1]
+        # GOALS have no ways.
+        chosen = row if is_free else [way for way in row if _is_best(way, number, totals, steps)][:1]
         for _, _, target in chosen:
             if target not in known:
                 known[target] = True
@@ -115,6 +111,6 @@ def _rows_of(pairs, goals, ways, totals):
 def _is_best(way, number, totals, steps):
     """Whether a way leads to a PAIR that was met earlier, and costs as little as told."""
     _, price, target = way
-    if target is None or target not in steps or steps[target] >= steps[number]:
+    if target not in steps or steps[target] >= steps[number]:
         return False
     return totals[target] + price <= totals[number]

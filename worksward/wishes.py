@@ -129,7 +129,7 @@ def wish_of_table(deeds, table):
     least = merged(table, {node: 0 for node in table})
     numbers = {}
     for node, steps in least.items():
-        for target in [node, *steps.values()]:
+        for target in [node] + list(steps.values()):
             numbers.setdefault(target, len(numbers))
     if len(numbers) > 6:
         raise TooMany(6)
